@@ -1,0 +1,1 @@
+"""Soundtitle: who holds land, whichever of its papers are forged."""

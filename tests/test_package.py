@@ -1,0 +1,96 @@
+"""The interface of the files that have landed, the README's examples, and what can be seen of the language's rules."""
+
+import ast
+import doctest
+import pathlib
+import unittest
+
+ROOT = pathlib.Path(__file__).resolve().parent.parent
+PACKAGE = ROOT / "soundtitle"
+
+FUNCTIONS = {
+    "forms": {
+        "is_integer": "thing", "is_name": "thing", "is_day": "thing", "is_paper": "thing", "is_roll": "thing",
+        "is_rule": "thing", "is_word": "thing", "is_truth": "thing",
+    },
+    "rolls": {
+        "plots": "roll", "names": "roll", "first_of": "roll plot", "plots_of": "roll number",
+        "papers_for": "roll plot", "with_paper": "roll at paper", "without_paper": "roll number",
+        "renamed": "roll table",
+    },
+    "moments": {"moments": "roll plot", "places_of": "roll plot number"},
+    "shown": {"shown_at": "roll plot", "shown_on": "roll plot day", "is_innocent": "roll plot number"},
+}
+BARRED = {
+    "eval", "exec", "open", "input", "compile", "globals", "locals", "vars", "map", "filter", "print", "float", "chr",
+    "hash", "id", "round", "iter", "next", "type", "frozenset", "bytes",
+}
+
+
+def files():
+    return sorted(PACKAGE.rglob("*.py"))
+
+
+def trees():
+    return [(path.name, ast.parse(path.read_text())) for path in files()]
+
+
+class Interface(unittest.TestCase):
+    def test_each_function_is_defined_in_its_file_with_its_arguments(self):
+        for name, functions in FUNCTIONS.items():
+            tree = ast.parse((PACKAGE / f"{name}.py").read_text())
+            found = {node.name: node.args for node in tree.body if isinstance(node, ast.FunctionDef)}
+            for function, arguments in functions.items():
+                self.assertIn(function, found, name)
+                self.assertEqual([one.arg for one in found[function].args], arguments.split(), function)
+                self.assertEqual(found[function].defaults, [], function)
+
+
+class Readme(unittest.TestCase):
+    def test_its_examples(self):
+        found = doctest.testfile(str(ROOT / "README.md"), module_relative=False)
+        self.assertGreater(found.attempted, 10)
+        self.assertEqual(found.failed, 0)
+
+
+class Rules(unittest.TestCase):
+    def test_the_folder_holds_plain_files_alone(self):
+        for path in PACKAGE.rglob("*"):
+            if "__pycache__" not in path.parts:
+                self.assertTrue(path.suffix == ".py" and path.name == path.name.lower(), path)
+
+    def test_sizes_and_signs(self):
+        for path in files():
+            text = path.read_text()
+            self.assertLessEqual(len(text.splitlines()), 399, path)
+            for line in text.splitlines():
+                self.assertLessEqual(len(line), 120, path)
+                self.assertTrue(all(" " <= sign <= "~" for sign in line), path)
+
+    def test_functions_are_short(self):
+        for name, tree in trees():
+            for node in ast.walk(tree):
+                if isinstance(node, ast.FunctionDef):
+                    self.assertLessEqual(node.end_lineno - node.lineno + 1, 40, f"{name}: {node.name}")
+
+    def test_imports_come_from_the_defining_file_of_the_package(self):
+        for name, tree in trees():
+            for node in ast.walk(tree):
+                self.assertNotIsInstance(node, ast.Import, name)
+                if isinstance(node, ast.ImportFrom):
+                    self.assertTrue(node.module.startswith("soundtitle."), name)
+                    source = ast.parse((ROOT / (node.module.replace(".", "/") + ".py")).read_text())
+                    defined = [one.name for one in source.body if isinstance(one, (ast.FunctionDef, ast.ClassDef))]
+                    for one in node.names:
+                        self.assertIsNone(one.asname, name)
+                        self.assertIn(one.name, defined, name)
+
+    def test_barred_words_are_not_called(self):
+        for name, tree in trees():
+            for node in ast.walk(tree):
+                if isinstance(node, ast.Name):
+                    self.assertNotIn(node.id, BARRED, name)
+
+
+if __name__ == "__main__":
+    unittest.main()
