@@ -22,8 +22,8 @@ FUNCTIONS = {
     "shown": {"shown_at": "roll plot", "shown_on": "roll plot day", "is_innocent": "roll plot number"},
 }
 BARRED = {
-    "eval", "exec", "open", "input", "compile", "globals", "locals", "vars", "map", "filter", "print", "float", "chr",
-    "hash", "id", "round", "iter", "next", "type", "frozenset", "bytes",
+    "eval", "exec", "open", "input", "compile", "globals", "locals", "vars", "filter", "print", "float", "chr", "hash",
+    "id", "round", "object", "complex", "callable", "delattr", "bytearray", "memoryview", "slice", "format", "ascii",
 }
 
 
