@@ -1,7 +1,7 @@
 """What stands in a roll, and the rolls that it becomes."""
 
 from soundtitle.errors import Clash, Needed, NoPaper, NoPlot, Wrong
-from soundtitle.forms import is_integer, is_paper_behind
+from soundtitle.forms import is_integer, is_paper_behind, is_truth
 from soundtitle.papers import led_along, persons_of, with_persons
 
 
@@ -47,6 +47,11 @@ def papers_for(roll, plot):
 def has_paper(roll, number):
     """Whether a number, any value, is that of a paper of the roll."""
     return is_integer(number) and 0 <= number < len(roll[1])
+
+
+def is_truth_of(roll, thing):
+    """Whether a thing, any value, is a truth of the roll."""
+    return is_truth(thing) and all([number < len(roll[1]) for number in thing])
 
 
 def with_paper(roll, at, paper):

@@ -1,9 +1,9 @@
 """The holder that the roll shows, whether its papers are sound or void."""
 
 from soundtitle.errors import NoSale
+from soundtitle.forms import is_integer
 from soundtitle.moments import moments
-from soundtitle.papers import drawn_on
-from soundtitle.rolls import first_of, has_paper, papers_for
+from soundtitle.rolls import first_of
 
 
 def shown_at(roll, plot):
@@ -26,11 +26,22 @@ def shown_on(roll, plot, day):
 
 def is_innocent(roll, plot, number):
     """Whether the seller is shown on the day on which a sale was drawn."""
-    numbers = papers_for(roll, plot)
-    # True would be found among the numbers as 1.
-    if not has_paper(roll, number) or number not in numbers:
+    found = innocents(roll, plot)
+    # True would be found among the numbers as 1, and lists cannot be looked up.
+    if not is_integer(number) or number not in found:
         raise NoSale(number)
-    paper = roll[1][number]
-    if paper[0] != "sale":
-        raise NoSale(number)
-    return shown_on(roll, plot, drawn_on(paper)) == paper[1]
+    return found[number]
+
+
+def innocents(roll, plot):
+    """The dict from the numbers of all sales for a plot to whether each is innocent."""
+    shown = shown_at(roll, plot)
+    ahead = {}
+    found = {}
+    for at, (day, number, word) in enumerate(moments(roll, plot)):
+        # The first moment of a day tells how many lie ahead of the day.
+        ahead.setdefault(day, at)
+        paper = roll[1][number]
+        if paper[0] == "sale" and word == "drawn":
+            found[number] = shown[ahead[day]] == paper[1]
+    return found

@@ -1,9 +1,13 @@
-"""Rolls and odd values that several tests use."""
+"""Rolls, Cases and odd values that several tests use, and what the document says of them, told once more plainly."""
 
+import itertools
 import random
 
 from soundtitle import errors
-from soundtitle.rolls import names, plots, with_paper
+from soundtitle.cases import Case
+from soundtitle.graph import Graph
+from soundtitle.moments import moments
+from soundtitle.rolls import first_of, names, plots, with_paper
 
 FORGED = ("sale", "fay", "xan", ("acre",), 1, 2)
 LATER = ("sale", "xan", "bea", ("acre",), 5, 6)
@@ -27,6 +31,14 @@ WIDE = (
 
 BARE = ((("acre", "fay"),), ())
 
+RULE = ("entered", "next")
+RULES = [
+    ("both", "never"), ("both", "next"), ("both", "once"),
+    ("drawn", "never"), ("drawn", "next"), ("drawn", "once"),
+    ("entered", "never"), ("entered", "next"), ("entered", "once"),
+    ("innocent", "never"), ("innocent", "next"), ("innocent", "once"),
+]
+
 
 def deep(many):
     thing = ()
@@ -44,6 +56,7 @@ def odd_values():
         [[[[{"a": (1, [2, {}])}]]]], tuple(range(2900)), (None, "a", 1, [], {}),
         errors.TitleError(), errors.Wrong(2), errors.NoPlot([]), [errors.Bound()], (errors.Needed(0, 1),),
         FORGED, list(FORGED), SMALL, list(SMALL), ("drawn", "never"),
+        Case(SMALL, {}, (), None), [Case(SMALL, {0: "void"}, (), 1)], Graph(Case(BARE, {}, (), 0), "acre", RULE),
     ]
 
 
@@ -95,3 +108,126 @@ def ring_of_persons(roll):
     """A table that leads each person of a roll to the next one, in a ring."""
     some = names(roll)
     return dict(zip(some, some[1:] + some[:1]))
+
+
+def made_cases(many):
+    """The arguments of Cases of few papers, with known words, groups and bounds, the same ones in each run."""
+    source = random.Random(11)
+    return [_made_case(source, roll) for roll in made_rolls(many)]
+
+
+def _made_case(source, roll):
+    numbers = list(range(len(roll[1])))
+    source.shuffle(numbers)
+    known = {number: source.choice(["sound", "void"]) for number in numbers[:source.choice([0, 0, 1, 2])]}
+    numbers = numbers[len(known):]
+    groups = []
+    while len(numbers) >= 2 and source.random() < 0.4:
+        size = source.choice([2, 2, 3])
+        if len(numbers) >= size:
+            groups.append(tuple(sorted(numbers[:size])))
+        numbers = numbers[size:]
+    return (roll, known, tuple(groups), source.choice([None, None, 0, 1, 2, 3]))
+
+
+def long_roll(seed, kinds=("sale",)):
+    """A roll of one plot and forty papers, of which nine at most are drawn and still to be entered at a place."""
+    source = random.Random(seed)
+    people = ["ann", "bob", "cid", "dan", "eve", "fay", "gil", "hal"][:source.choice([4, 6, 8])]
+    papers, waiting = [], []
+    day = 0
+    while len(papers) < 40 or waiting:
+        day += source.choice([0, 1, 1])
+        if len(papers) < 40 and len(waiting) < 9 and (len(waiting) < 6 or source.random() < 0.6):
+            waiting.append(len(papers))
+            one, other = source.sample(people, 2)
+            kind = source.choice(kinds)
+            papers.append([kind, one, other, ("acre",), day] if kind == "sale" else [kind, one, other, "acre", 5, day])
+        else:
+            papers[waiting.pop(source.randrange(len(waiting)))].append(day)
+    return ((("acre", "ann"),), tuple(tuple(paper) for paper in papers))
+
+
+def told_states(roll, plot, rule, truth):
+    """The states of a plot, by the words of [5] and [6] once more, step by step."""
+    prior, forged = rule
+    shown = holder = base = first_of(roll, plot)
+    rows = moments(roll, plot)
+    line, row = [(holder, base, ())], []
+    shown_ahead, ahead = {}, [first_of(roll, plot)]
+    for day, number, word in rows:
+        shown_ahead.setdefault(day, ahead[-1])
+        paper = roll[1][number]
+        if word == "entered" and paper[0] == "sale" and paper[1] == ahead[-1]:
+            ahead.append(paper[2])
+    for day, number, word in rows:
+        paper = roll[1][number]
+        if paper[0] != "sale":
+            line.append((holder, base, tuple(row)))
+            continue
+        _, seller, buyer, _, _, entered = paper
+        sound = number not in truth
+        innocent = shown_ahead[paper[4]] == seller
+        old_holder, old_base, old_row = holder, base, list(row)
+        if word == "drawn" and sound:
+            if seller == old_holder:
+                holder = buyer
+                if entered is not None and prior in ("entered", "both"):
+                    row = old_row + [number]
+            elif prior == "innocent" and innocent and seller == old_base:
+                holder = buyer
+        if word == "entered":
+            if forged == "never":
+                if sound and seller == old_base:
+                    base = buyer
+            elif seller == shown:
+                base = buyer
+            if seller == shown:
+                shown = buyer
+            if number in old_row:
+                if seller == old_base:
+                    row = old_row[old_row.index(number) + 1:]
+                else:
+                    row = [other for other in old_row if other != number]
+            elif sound:
+                if seller == old_base and (prior == "entered" or prior == "both" and innocent):
+                    holder, row = buyer, []
+            elif seller == old_base and forged == "once" and prior != "drawn" and innocent:
+                holder, row = buyer, []
+        line.append((holder, base, tuple(row)))
+    return line
+
+
+def told_doubts(roll, known, groups):
+    grouped = [number for group in groups for number in group]
+    alone = [number for number in range(len(roll[1])) if number not in known and number not in grouped]
+    return sorted([*groups, *[(number,) for number in alone]])
+
+
+def told_truths(roll, known, groups, most):
+    """All truths of a Case of few papers, by the words of [40] once more: of all lots of papers, those that fit."""
+    doubts = told_doubts(roll, known, groups)
+    found = []
+    for size in range(len(roll[1]) + 1):
+        for truth in itertools.combinations(range(len(roll[1])), size):
+            void = [doubt for doubt in doubts if doubt[0] in truth]
+            fits = all((number in truth) == (word == "void") for number, word in known.items())
+            whole = all(len({number in truth for number in doubt}) == 1 for doubt in doubts)
+            if fits and whole and (most is None or len(void) <= most):
+                found.append(truth)
+    return sorted(found)
+
+
+def told_open(roll, known, groups, plot, place):
+    """The heads of the doubts that are open at a place, by the words of [50] once more."""
+    numbers = [number for _, number, _ in moments(roll, plot)]
+    found = []
+    for doubt in told_doubts(roll, known, groups):
+        if any(n in doubt for n in numbers[:place]) and any(n in doubt for n in numbers[place:]):
+            found.append(doubt[0])
+    return found
+
+
+def told_node(roll, known, groups, plot, rule, truth, place):
+    words = [(head, "void" if head in truth else "sound") for head in told_open(roll, known, groups, plot, place)]
+    return (told_states(roll, plot, rule, truth)[place], tuple(words))

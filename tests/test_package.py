@@ -1,6 +1,7 @@
 """The interface of the files that have landed, the README's examples, and what can be seen of the language's rules."""
 
 import ast
+import builtins
 import doctest
 import pathlib
 import unittest
@@ -20,6 +21,35 @@ FUNCTIONS = {
     },
     "moments": {"moments": "roll plot", "places_of": "roll plot number"},
     "shown": {"shown_at": "roll plot", "shown_on": "roll plot day", "is_innocent": "roll plot number"},
+    "rules": {"rules": "", "same_doctrine": "one other", "doctrines": "", "doctrine_of": "rule"},
+    "walks": {
+        "states": "roll plot rule truth", "overrides": "roll plot rule truth", "holder": "roll plot rule truth",
+        "holders": "roll rule truth",
+    },
+    "lots": {
+        "is_lot": "case thing", "agrees": "case lot truth", "lot_of": "case truth", "found_all": "case lot",
+    },
+    "numbers": {"numbers": "case plot rule", "holders_many": "case plot rule"},
+}
+METHODS = {
+    ("cases", "Case"): {
+        "__init__": "roll known groups most", "__eq__": "other", "roll": "", "known": "", "groups": "", "most": "",
+        "doubts": "", "truths": "", "doubt_of": "number", "count": "", "is_truth": "thing", "voids": "truth",
+        "found": "number word",
+    },
+    ("graph", "Graph"): {
+        "__init__": "case plot rule", "places": "", "open_at": "place", "nodes": "place", "steps": "place",
+        "walk": "truth", "come": "place node",
+    },
+}
+# What the language lets be imported from Python's own library.
+LIBRARY = {
+    "heapq": {"heappush", "heappop", "heapify", "heapreplace", "heappushpop"},
+    "math": {"gcd", "lcm", "isqrt", "comb", "perm", "factorial"},
+    "itertools": {
+        "product", "combinations", "permutations", "chain", "accumulate", "pairwise", "islice", "zip_longest",
+    },
+    "collections": {"defaultdict", "deque"},
 }
 BARRED = {
     "eval", "exec", "open", "input", "compile", "globals", "locals", "vars", "filter", "print", "float", "chr", "hash",
@@ -35,15 +65,31 @@ def trees():
     return [(path.name, ast.parse(path.read_text())) for path in files()]
 
 
+def defined(tree):
+    """The names that the file of a tree defines itself."""
+    found = [one.name for one in tree.body if isinstance(one, (ast.FunctionDef, ast.ClassDef))]
+    return found + [one.targets[0].id for one in tree.body if isinstance(one, ast.Assign)]
+
+
 class Interface(unittest.TestCase):
+    def assert_defined(self, body, functions, where):
+        found = {node.name: node.args for node in body if isinstance(node, ast.FunctionDef)}
+        for function, arguments in functions.items():
+            self.assertIn(function, found, where)
+            self.assertEqual([one.arg for one in found[function].args], arguments.split(), function)
+            self.assertEqual(found[function].defaults, [], function)
+
     def test_each_function_is_defined_in_its_file_with_its_arguments(self):
         for name, functions in FUNCTIONS.items():
+            self.assert_defined(ast.parse((PACKAGE / f"{name}.py").read_text()).body, functions, name)
+
+    def test_each_method_is_defined_in_its_class_with_its_arguments(self):
+        for (name, title), methods in METHODS.items():
             tree = ast.parse((PACKAGE / f"{name}.py").read_text())
-            found = {node.name: node.args for node in tree.body if isinstance(node, ast.FunctionDef)}
-            for function, arguments in functions.items():
-                self.assertIn(function, found, name)
-                self.assertEqual([one.arg for one in found[function].args], arguments.split(), function)
-                self.assertEqual(found[function].defaults, [], function)
+            found = [node for node in tree.body if isinstance(node, ast.ClassDef) and node.name == title]
+            self.assertEqual(len(found), 1, title)
+            with_self = {method: f"self {arguments}" for method, arguments in methods.items()}
+            self.assert_defined(found[0].body, with_self, title)
 
 
 class Readme(unittest.TestCase):
@@ -78,12 +124,25 @@ class Rules(unittest.TestCase):
             for node in ast.walk(tree):
                 self.assertNotIsInstance(node, ast.Import, name)
                 if isinstance(node, ast.ImportFrom):
-                    self.assertTrue(node.module.startswith("soundtitle."), name)
-                    source = ast.parse((ROOT / (node.module.replace(".", "/") + ".py")).read_text())
-                    defined = [one.name for one in source.body if isinstance(one, (ast.FunctionDef, ast.ClassDef))]
+                    if node.module in LIBRARY:
+                        told = LIBRARY[node.module]
+                    else:
+                        self.assertTrue(node.module.startswith("soundtitle."), name)
+                        told = defined(ast.parse((ROOT / (node.module.replace(".", "/") + ".py")).read_text()))
                     for one in node.names:
                         self.assertIsNone(one.asname, name)
-                        self.assertIn(one.name, defined, name)
+                        self.assertIn(one.name, told, name)
+
+    def test_no_name_of_a_function_hides_an_import_or_a_class(self):
+        taken_ahead = [one for one in dir(builtins) if not one.startswith("_")]
+        for name, tree in trees():
+            imported = [one.name for node in tree.body if isinstance(node, ast.ImportFrom) for one in node.names]
+            taken = taken_ahead + imported + [node.name for node in tree.body if isinstance(node, ast.ClassDef)]
+            for node in ast.walk(tree):
+                if isinstance(node, ast.arg):
+                    self.assertNotIn(node.arg, taken, name)
+                if isinstance(node, ast.Name) and isinstance(node.ctx, ast.Store):
+                    self.assertNotIn(node.id, taken, name)
 
     def test_barred_words_are_not_called(self):
         for name, tree in trees():

@@ -1,0 +1,132 @@
+"""[41], with [40]; [3] and [4] as far as they speak of it."""
+
+import itertools
+import unittest
+
+from samples import BARE, SMALL, WIDE, long_roll, made_cases, odd_values, spoiled
+from soundtitle.cases import Case
+from soundtitle.errors import Bound, NoTruth
+from soundtitle.lots import agrees, found_all, is_lot, lot_of
+
+CASE = Case(SMALL, {}, (), None)
+GROUPED = Case(WIDE, {1: "void", 6: "sound"}, ((3, 5), (0, 2, 7)), 2)
+
+
+def all_lots(case):
+    """All lots of words of a Case of few doubts."""
+    heads = [doubt[0] for doubt in case.doubts()]
+    found = []
+    for words in itertools.product(("sound", "void", None), repeat=len(heads)):
+        found.append(tuple((head, word) for head, word in zip(heads, words) if word is not None))
+    return found
+
+
+class Lots(unittest.TestCase):
+    def test_lots(self):
+        for case in (CASE, GROUPED, Case(BARE, {}, (), None)):
+            for lot in all_lots(case):
+                self.assertIs(is_lot(case, lot), True, lot)
+
+    def test_what_is_none(self):
+        for thing in (
+            None, [], [(0, "void")], ((0, "void"), (0, "void")), ((0, "sound"), (0, "void")),
+            ((1, "void"), (0, "void")),
+            ((2, "void"),), ((-1, "void"),), ((False, "void"),), ((True, "sound"),), ((0, "Void"),), ((0, None),),
+            ((0,),), ((0, "void", "void"),), (0, "void"), ("void",), ([0, "void"],), (("0", "void"),), ((0, ["void"]),),
+            {0: "void"}, "0 void", ((0, "void"), None), (((0,), "void"),),
+        ):
+            self.assertIs(is_lot(CASE, thing), False, thing)
+
+    def test_heads_alone_tell_doubts(self):
+        for number, expected in enumerate([True, False, False, True, True, False, False, False]):
+            self.assertIs(is_lot(GROUPED, ((number, "void"),)), expected, number)
+        # A lot may tell more void doubts than the bound lets.
+        self.assertIs(is_lot(GROUPED, ((0, "void"), (3, "void"), (4, "void"))), True)
+
+    def test_any_value(self):
+        lots = [repr(lot) for lot in all_lots(CASE)]
+        things = odd_values()
+        for lot in all_lots(CASE):
+            things.extend(spoiled(lot))
+        for thing in things:
+            self.assertIs(is_lot(CASE, thing), repr(thing) in lots, thing)
+
+
+class Agrees(unittest.TestCase):
+    def test_the_example_of_the_document(self):
+        self.assertEqual(lot_of(CASE, (1,)), ((0, "sound"), (1, "void")))
+
+    def test_groups_are_told_by_their_heads(self):
+        self.assertEqual(lot_of(GROUPED, (0, 1, 2, 7)), ((0, "void"), (3, "sound"), (4, "sound")))
+        self.assertIs(agrees(GROUPED, ((3, "sound"),), (0, 1, 2, 7)), True)
+        self.assertIs(agrees(GROUPED, ((3, "void"),), (0, 1, 2, 7)), False)
+        self.assertIs(agrees(GROUPED, ((0, "void"), (4, "sound")), (0, 1, 2, 7)), True)
+        self.assertIs(agrees(GROUPED, ((0, "void"), (4, "void")), (0, 1, 2, 7)), False)
+
+    def test_all_truths_agree_with_the_empty_lot(self):
+        for truth in GROUPED.truths():
+            self.assertIs(agrees(GROUPED, (), truth), True)
+
+    def test_a_truth_agrees_with_the_parts_of_its_lot_alone(self):
+        for arguments in made_cases(30):
+            case = Case(*arguments)
+            if len(case.doubts()) <= 5:
+                for truth in case.truths():
+                    whole = lot_of(case, truth)
+                    self.assertIs(is_lot(case, whole), True)
+                    self.assertEqual([head for head, _ in whole], [doubt[0] for doubt in case.doubts()])
+                    for lot in all_lots(case):
+                        self.assertIs(agrees(case, lot, truth), set(lot) <= set(whole))
+
+    def test_any_other_truth_is_refused(self):
+        truths = [repr(truth) for truth in GROUPED.truths()]
+        for thing in odd_values() + [(True,), (1, 3), (1, 6), (0, 1, 2, 3, 4, 5, 7), [1], (1, 4, 4), (8,)]:
+            if repr(thing) not in truths:
+                for call in (lambda: lot_of(GROUPED, thing), lambda: agrees(GROUPED, (), thing)):
+                    with self.assertRaises(NoTruth) as caught:
+                        call()
+                    self.assertIs(caught.exception.truth, thing)
+
+
+class FoundAll(unittest.TestCase):
+    def test_words_one_by_one(self):
+        self.assertEqual(
+            found_all(GROUPED, ((0, "void"), (4, "sound"))), GROUPED.found(7, "void").found(4, "sound")
+        )
+        self.assertEqual(
+            found_all(GROUPED, ((0, "sound"), (3, "void"), (4, "void"))).known(),
+            {0: "sound", 1: "void", 2: "sound", 3: "void", 4: "void", 5: "void", 6: "sound", 7: "sound"},
+        )
+
+    def test_the_empty_lot(self):
+        self.assertEqual(found_all(GROUPED, ()), GROUPED)
+        self.assertEqual(found_all(Case(BARE, {}, (), 0), ()), Case(BARE, {}, (), 0))
+
+    def test_truths_are_those_that_agree(self):
+        for arguments in made_cases(40):
+            case = Case(*arguments)
+            for lot in all_lots(case)[::7]:
+                voids = len([word for _, word in lot if word == "void"])
+                if case.most() is not None and voids > case.most():
+                    with self.assertRaises(Bound):
+                        found_all(case, lot)
+                else:
+                    found = found_all(case, lot)
+                    self.assertEqual(found.truths(), [truth for truth in case.truths() if agrees(case, lot, truth)])
+                    self.assertEqual(found.most(), None if case.most() is None else case.most() - voids)
+
+    def test_the_bound(self):
+        with self.assertRaises(Bound):
+            found_all(GROUPED, ((0, "void"), (3, "void"), (4, "void")))
+        self.assertEqual(found_all(GROUPED, ((0, "void"), (3, "void"))).most(), 0)
+        self.assertEqual(found_all(CASE, ((0, "void"), (1, "void"))).most(), None)
+
+    def test_forty_doubts(self):
+        case = Case(long_roll(2), {}, (), None)
+        lot = lot_of(case, tuple(range(0, 40, 2)))
+        self.assertEqual(found_all(case, lot[:38]).count(), 4)
+        self.assertEqual(found_all(case, lot).truths(), [tuple(range(0, 40, 2))])
+
+
+if __name__ == "__main__":
+    unittest.main()
