@@ -25,8 +25,7 @@ class Case:
         self._most = most
         self._doubts = _doubts(roll, known, groups)
         self._doubt_of = {number: doubt for doubt in self._doubts for number in doubt}
-        self._shelf_key = None
-        self._shelf = []
+        self._shelves = {}
 
     def __eq__(self, other):
         return (
@@ -112,16 +111,24 @@ class Case:
         groups = tuple([group for group in self._groups if group != doubt])
         return Case(self._roll, known, groups, most)
 
-    def shelf(self, key):
-        """A list for what is worked out of the Case under a key, bare at first.
+    def truth_with(self, heads):
+        """The void papers if just the doubts with these heads are void."""
+        void = [number for number in self._known if self._known[number] == "void"]
+        for head in heads:
+            void.extend(self._doubt_of[head])
+        return tuple(sorted(void))
 
-        Questions about one Case come one behind another: the list of the last key is kept, so that the next of them
-        finds what was worked out. What is told never depends on it.
+    def shelf(self, kind, key):
+        """A list for what is worked out of the Case, of a kind and under a key, bare at first.
+
+        Questions about one Case come one behind another: of each kind the list of the last key is kept, so that the
+        next of them finds what was worked out. What is told never depends on it.
         """
-        if self._shelf_key != key:
-            self._shelf_key = key
-            self._shelf = []
-        return self._shelf
+        kept = self._shelves.get(kind)
+        if kept is None or kept[0] != key:
+            kept = (key, [])
+            self._shelves[kind] = kept
+        return kept[1]
 
     def _voids(self, truth):
         return len([doubt for doubt in self._doubts if doubt[0] in truth])

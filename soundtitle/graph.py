@@ -9,33 +9,79 @@ from soundtitle.rolls import plots
 from soundtitle.walks import deals, first_state, state_behind, states
 
 
+class Measure:
+    """By what the choices of words are counted that lead to a node.
+
+    A choice counts as the product of the weights of its words; weights is the dict from the heads of all doubts to
+    tuples of that of "sound" and that of "void". The tally of a node tells how much the choices with 0, 1, 2 .. void
+    doubts come to, packed into one integer, each number in as many bits as that of all choices needs. So all these
+    numbers are added by one sum, and one void doubt more is a shift.
+    """
+
+    def __init__(self, weights, most):
+        self.weights = weights
+        if most is None:
+            # Nothing is cut off by a bound: one number for all choices is enough.
+            self.width = 0
+            self.limit = -1
+        else:
+            whole = 1
+            for sound, void in weights.values():
+                whole = whole * (sound + void)
+            self.width = whole.bit_length()
+            self.limit = (1 << (self.width * (most + 1))) - 1
+
+    def with_doubt(self, tally, head):
+        """A tally with one doubt more, that may be sound, or void."""
+        sound, void = self.weights[head]
+        return (tally * sound + ((tally * void) << self.width)) & self.limit
+
+    def by_voids(self, tally):
+        """The list of how much the choices with 0, 1, 2 .. void doubts come to, or the one number for all."""
+        if self.width == 0:
+            return [tally]
+        slot = (1 << self.width) - 1
+        return [(tally >> at) & slot for at in range(0, self.limit.bit_length(), self.width)]
+
+    def least_voids(self, tally):
+        """The least number of void doubts of which a tally, not 0, tells."""
+        return ((tally & -tally).bit_length() - 1) // self.width
+
+
 class Branch:
     """A word that the paper of a moment may have there, and what it makes of the nodes ahead of the moment.
 
-    The words of a node are kept as a mask: one bit for each open doubt that is void. How many choices of words lead to
-    a node is kept as its tally: how many have 0, 1, 2 .. void doubts, packed into one integer, each number in as many
-    bits as a count of all truths needs. So all these numbers are added by one sum, and one void doubt more is a shift.
+    The words of a node are kept as a mask: one bit for each open doubt that is void.
     """
 
-    def __init__(self, is_sound, word, asked, kept, added, shift):
+    def __init__(self, is_sound, word, asked, kept, added, weight):
         self.is_sound = is_sound
         self.word = word
+        self.wanted = 0 if is_sound else asked
         self.asked = asked
         self.kept = kept
         self.added = added
-        self.shift = shift
+        self.weight = weight
 
-    def moved(self, rows, limit):
+    def moved(self, rows, measure):
         """The tuples (mask, mask behind, tally behind) for the masks of rows that let this word."""
+        shift = measure.width if self.word == "void" else 0
+        limit = measure.limit
         found = []
-        wanted = 0 if self.is_sound else self.asked
         for mask, tally in rows.items():
-            if (mask & self.asked) == wanted:
+            if (mask & self.asked) == self.wanted:
                 # The limit cuts off what has more void doubts than the bound lets; nothing may be left.
-                behind = (tally << self.shift) & limit
+                behind = ((tally * self.weight) << shift) & limit
                 if behind:
                     found.append((mask, (mask & self.kept) | self.added, behind))
         return found
+
+    def ahead(self, mask):
+        """The mask ahead of the moment that becomes a mask by this word, or None."""
+        before = (mask & (-1 - self.added)) | self.wanted
+        if (before & self.asked) != self.wanted or ((before & self.kept) | self.added) != mask:
+            return None
+        return before
 
 
 class Graph:
@@ -57,10 +103,9 @@ class Graph:
         self._spans = _spans(self._heads)
         self._open_heads = [_heads_at(self._spans, place) for place in range(len(self._deals) + 1)]
         self._bits = {doubt[0]: 1 << at for at, doubt in enumerate(case.doubts())}
-        self._width = len(self._bits) + 1
-        self._limit = (1 << (self._width * (case.cap() + 1))) - 1
+        self._one_each = Measure({head: (1, 1) for head in self._bits}, case.cap())
         # A layer is the dict from the states at a place to dicts from masks to tallies. It is made when it is needed.
-        self._layers = case.shelf((plot, rule))
+        self._layers = case.shelf("graph", (plot, rule))
         if not self._layers:
             self._layers.append({first_state(case.roll(), plot): {0: 1}})
 
@@ -87,10 +132,10 @@ class Graph:
         if place == len(self._deals):
             raise NoPlace(place)
         found = []
-        for branch in self._branches(place):
+        for branch in self._branches(place, self._one_each):
             for state, rows in self._layer(place).items():
                 behind = self._state_behind(place, branch, state)
-                for mask, other, _ in branch.moved(rows, self._limit):
+                for mask, other, _ in branch.moved(rows, self._one_each):
                     node = self._node(place, state, mask)
                     found.append((node, branch.word, self._node(place + 1, behind, other)))
         return sorted(found)
@@ -111,15 +156,45 @@ class Graph:
         tally = self._tally(place, node)
         if tally == 0:
             raise NoNode(node)
-        return sum(self._by_voids(place, tally))
+        return sum(self._by_voids(place, tally, self._one_each))
 
     def ends(self):
         """The dict from the holders at the end to lists: in how many truths with 0, 1, 2 .. void doubts each is it."""
+        return self._by_holders(self._layer(len(self._deals)), self._one_each)
+
+    def weighed(self, weights):
+        """The dict from the holders at the end to the sums of what the truths count in which each is it.
+
+        A truth counts as the product of what its words do; weights is the dict from the heads of all doubts to tuples
+        of what "sound" and "void" count. Names with a sum of 0 may be left out.
+        """
+        cap = self._case.cap()
+        measure = Measure(weights, None if cap == len(self._bits) else cap)
+        layer = self._layers[0]
+        for place in range(len(self._deals)):
+            layer = self._layer_behind(place, layer, measure)
+        found = self._by_holders(layer, measure)
+        return {name: sum(found[name]) for name in found}
+
+    def lightest(self, some):
+        """The heads of the void doubts of a truth with as few of them as can be in which one of some names holds.
+
+        None if there is no such truth.
+        """
         place = len(self._deals)
-        tallies = {}
-        for state, rows in self._layer(place).items():
-            tallies[state[0]] = tallies.get(state[0], 0) + sum(rows.values())
-        return {name: self._by_voids(place, tallies[name]) for name in sorted(tallies)}
+        # At the end no doubt is open, and the only mask is 0.
+        layer = self._layer(place)
+        ends = [(self._one_each.least_voids(layer[state][0]), state) for state in layer if state[0] in some]
+        if not ends:
+            return None
+        _, state = min(ends)
+        mask = 0
+        found = []
+        for at in reversed(range(place)):
+            word, state, mask = self._ahead(at, state, mask)
+            if word == "void":
+                found.append(self._heads[at])
+        return found
 
     def _check_place(self, place):
         if not is_integer(place) or not 0 <= place < len(self._open_heads):
@@ -131,37 +206,50 @@ class Graph:
 
     def _layer(self, place):
         while len(self._layers) <= place:
-            self._layers.append(self._layer_behind(len(self._layers) - 1))
+            last = len(self._layers) - 1
+            self._layers.append(self._layer_behind(last, self._layers[last], self._one_each))
         return self._layers[place]
 
-    def _layer_behind(self, place):
+    def _layer_behind(self, place, layer, measure):
         found = {}
-        for branch in self._branches(place):
-            for state, rows in self._layers[place].items():
-                moved = branch.moved(rows, self._limit)
+        for branch in self._branches(place, measure):
+            for state, rows in layer.items():
+                moved = branch.moved(rows, measure)
                 if moved:
                     into = found.setdefault(self._state_behind(place, branch, state), {})
                     for _, mask, tally in moved:
                         into[mask] = into.get(mask, 0) + tally
         return found
 
+    def _ahead(self, place, state, mask):
+        """The tuple (word, state, mask) of a step to a state and a mask, by as few void doubts as can be."""
+        found = []
+        for branch in self._branches(place, self._one_each):
+            before = branch.ahead(mask)
+            more = 1 if branch.word == "void" else 0
+            for other, rows in self._layer(place).items():
+                if before in rows and self._state_behind(place, branch, other) == state:
+                    found.append((self._one_each.least_voids(rows[before]) + more, branch.word, other, before))
+        return min(found)[1:]
+
     def _state_behind(self, place, branch, state):
         return state_behind(self._rule, self._deals[place], state, branch.is_sound)
 
-    def _branches(self, place):
+    def _branches(self, place, measure):
         """The words that the moment behind a place lets."""
         head = self._heads[place]
         if head is None:
             is_sound = self._case.known()[self._numbers[place]] == "sound"
-            return [Branch(is_sound, "", 0, -1, 0, 0)]
+            return [Branch(is_sound, "", 0, -1, 0, 1)]
         bit = self._bits[head]
         first, last = self._spans[head]
         # Behind its last moment a doubt is open no more, and its bit goes.
         kept = -1 - bit if place == last else -1
         if place == first:
             added = 0 if place == last else bit
-            return [Branch(True, "sound", 0, kept, 0, 0), Branch(False, "void", 0, kept, added, self._width)]
-        return [Branch(True, "", bit, kept, 0, 0), Branch(False, "", bit, kept, 0, 0)]
+            sound, void = measure.weights[head]
+            return [Branch(True, "sound", 0, kept, 0, sound), Branch(False, "void", 0, kept, added, void)]
+        return [Branch(True, "", bit, kept, 0, 1), Branch(False, "", bit, kept, 0, 1)]
 
     def _tally(self, place, node):
         """The tally of a node, any value, at a place: 0 if no truth comes to it there."""
@@ -175,14 +263,20 @@ class Graph:
         mask = sum([self._bits[head] for head, word in words if word == "void"])
         return self._layer(place).get(state, {}).get(mask, 0)
 
-    def _by_voids(self, place, tally):
-        """The list of how many truths with 0, 1 .. void doubts go on from a tally at a place."""
-        told = [first for first, _ in self._spans.values() if first < place]
-        for _ in range(len(self._bits) - len(told)):
-            # One doubt more, of which nothing was asked up to here: it may be sound, or void.
-            tally = (tally + (tally << self._width)) & self._limit
-        slot = (1 << self._width) - 1
-        return [(tally >> (self._width * voids)) & slot for voids in range(self._case.cap() + 1)]
+    def _by_holders(self, layer, measure):
+        """The dict from the holders in the last layer to what its tallies tell, void doubts by void doubts."""
+        tallies = {}
+        for state, rows in layer.items():
+            tallies[state[0]] = tallies.get(state[0], 0) + sum(rows.values())
+        return {name: self._by_voids(len(self._deals), tallies[name], measure) for name in sorted(tallies)}
+
+    def _by_voids(self, place, tally, measure):
+        """What a tally at a place tells of the truths that go on from it, void doubts by void doubts."""
+        for head in self._bits:
+            # Of these doubts nothing was asked up to here.
+            if head not in self._spans or self._spans[head][0] >= place:
+                tally = measure.with_doubt(tally, head)
+        return measure.by_voids(tally)
 
 
 def graph_of(case, plot, rule):

@@ -1,4 +1,6 @@
-"""Lots of words: what is told of some doubts of a Case, each by its head."""
+"""Lots of words: what is told of some doubts of a Case, each by its head; and least lots of anything."""
+
+from itertools import combinations
 
 from soundtitle.cases import Case
 from soundtitle.errors import Bound, NoTruth
@@ -39,6 +41,11 @@ def found_all(case, lot):
     return found
 
 
+def has_head(case, thing):
+    """Whether a thing, any value, is the head of a doubt of the Case."""
+    return is_integer(thing) and thing in [doubt[0] for doubt in case.doubts()]
+
+
 def is_told(thing):
     """Whether a thing, any value, has the form of one part of a lot."""
     return isinstance(thing, tuple) and len(thing) == 2 and is_integer(thing[0]) and is_word(thing[1])
@@ -49,3 +56,17 @@ def word_in(truth, number):
     if number in truth:
         return "void"
     return "sound"
+
+
+def least_lots(some, is_enough):
+    """The ascending list of the tuples out of an ascending list that are enough, and no lesser part of them is."""
+    found = []
+    for many in range(len(some) + 1):
+        for lot in combinations(some, many):
+            if not any([_is_part(elder, lot) for elder in found]) and is_enough(lot):
+                found.append(lot)
+    return sorted(found)
+
+
+def _is_part(one, other):
+    return all([part in other for part in one])

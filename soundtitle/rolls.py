@@ -2,7 +2,7 @@
 
 from soundtitle.errors import Clash, Needed, NoPaper, NoPlot, Wrong
 from soundtitle.forms import is_integer, is_paper_behind, is_truth
-from soundtitle.papers import led_along, persons_of, with_persons
+from soundtitle.papers import drawn_on, entered_on, led_along, persons_of, with_persons
 
 
 def plots(roll):
@@ -90,3 +90,12 @@ def renamed(roll, table):
         tuple([(plot, new[name]) for plot, name in firsts]),
         tuple([with_persons(paper, new) for paper in papers]),
     )
+
+
+def day_behind(roll):
+    """The first day behind all days of a roll."""
+    days = [-1]
+    for paper in roll[1]:
+        entered = entered_on(paper)
+        days.append(drawn_on(paper) if entered is None else entered)
+    return max(days) + 1

@@ -1,5 +1,6 @@
 """Rolls, Cases and odd values that several tests use, and what the document says of them, told once more plainly."""
 
+import fractions
 import itertools
 import random
 
@@ -231,3 +232,91 @@ def told_open(roll, known, groups, plot, place):
 def told_node(roll, known, groups, plot, rule, truth, place):
     words = [(head, "void" if head in truth else "sound") for head in told_open(roll, known, groups, plot, place)]
     return (told_states(roll, plot, rule, truth)[place], tuple(words))
+
+
+def told_holders(arguments, plot, rule):
+    """The dict from all truths of a Case of few papers, ascending, to who holds a plot in them."""
+    truths = told_truths(*arguments)
+    return {truth: told_states(arguments[0], plot, rule, truth)[-1][0] for truth in truths}
+
+
+def told_voids(arguments, truth):
+    """The heads of the doubts that are void in a truth of a Case."""
+    return [doubt[0] for doubt in told_doubts(*arguments[:3]) if doubt[0] in truth]
+
+
+def told_lot(arguments, truth):
+    return {(doubt[0], "void" if doubt[0] in truth else "sound") for doubt in told_doubts(*arguments[:3])}
+
+
+def all_lots(heads):
+    """All lots of words of some doubts, told by their heads."""
+    found = []
+    for words in itertools.product(("sound", "void", None), repeat=len(heads)):
+        found.append(tuple((head, word) for head, word in zip(heads, words) if word is not None))
+    return found
+
+
+def asked(many, doubts=8):
+    """Tuples (arguments, plot, rule), each made Case of so few doubts with each plot, and a few rules by turns."""
+    found = []
+    for at, arguments in enumerate(made_cases(many)):
+        if len(told_doubts(*arguments[:3])) <= doubts:
+            for place, plot in enumerate(plots(arguments[0])):
+                for step in range(3):
+                    found.append((arguments, plot, RULES[(5 * at + 7 * place + 4 * step) % 12]))
+    return found
+
+
+def lively_roll(source, size):
+    """A roll whose papers hang together: mostly who sells or borrows has held the plot, and releases are in place."""
+    people = ["ann", "bob", "cid", "dan"]
+    held = ["acre", "moor"][:source.choice([1, 1, 2])]
+    roll = (tuple((plot, "ann") for plot in held), ())
+    holders, day = ["ann"], 0
+    for number in range(size):
+        day += source.choice([0, 1, 1, 2])
+        entered = source.choice([None, day, day + 1, day + source.randint(0, 6)])
+        one = source.choice(holders + holders[-1:])
+        other = source.choice([name for name in people if name != one])
+        loans = [at for at, paper in enumerate(roll[1]) if paper[0] == "loan"]
+        kind = source.choice(["sale", "sale", "sale", "loan", "release"])
+        if kind == "release" and loans:
+            loan = source.choice(loans)
+            paper = ("release", source.choice([roll[1][loan][2], roll[1][loan][2], other]), loan, day)
+        elif kind == "loan":
+            paper = ("loan", one, other, source.choice(held), source.randint(1, 9), day, entered)
+        else:
+            paper = ("sale", one, other, tuple(held) if source.random() < 0.2 else (source.choice(held),), day, entered)
+            holders.append(other)
+        roll = with_paper(roll, source.randint(0, number) if source.random() < 0.1 and not loans else number, paper)
+    return roll
+
+
+def lively(many, size, seed=1):
+    """Tuples (arguments, plot, rule) of Cases of so many papers that hang together, the same ones in each run."""
+    source = random.Random(seed)
+    found = []
+    for at in range(many):
+        arguments = _made_case(source, lively_roll(source, size))
+        found.append((arguments, source.choice(plots(arguments[0])), RULES[at % 12]))
+    return found
+
+
+def made_shares(source, heads):
+    """Shares for some doubts, some of them none or all."""
+    found = {}
+    for head in heads:
+        bottom = source.randint(1, 9)
+        share = fractions.Fraction(source.choice([0, bottom, source.randint(0, bottom)]), bottom)
+        found[head] = (share.numerator, share.denominator)
+    return found
+
+
+def told_weight(shares, truth):
+    """How likely it is that just those of the doubts are void that are so in a truth."""
+    found = fractions.Fraction(1)
+    for head, (top, bottom) in shares.items():
+        share = fractions.Fraction(top, bottom)
+        found = found * (share if head in truth else 1 - share)
+    return found

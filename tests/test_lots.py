@@ -1,9 +1,8 @@
 """[41], with [40]; [3] and [4] as far as they speak of it."""
 
-import itertools
 import unittest
 
-from samples import BARE, SMALL, WIDE, long_roll, made_cases, odd_values, spoiled
+from samples import BARE, SMALL, WIDE, all_lots, long_roll, made_cases, odd_values, spoiled
 from soundtitle.cases import Case
 from soundtitle.errors import Bound, NoTruth
 from soundtitle.lots import agrees, found_all, is_lot, lot_of
@@ -12,19 +11,14 @@ CASE = Case(SMALL, {}, (), None)
 GROUPED = Case(WIDE, {1: "void", 6: "sound"}, ((3, 5), (0, 2, 7)), 2)
 
 
-def all_lots(case):
-    """All lots of words of a Case of few doubts."""
-    heads = [doubt[0] for doubt in case.doubts()]
-    found = []
-    for words in itertools.product(("sound", "void", None), repeat=len(heads)):
-        found.append(tuple((head, word) for head, word in zip(heads, words) if word is not None))
-    return found
+def heads_of(case):
+    return [doubt[0] for doubt in case.doubts()]
 
 
 class Lots(unittest.TestCase):
     def test_lots(self):
         for case in (CASE, GROUPED, Case(BARE, {}, (), None)):
-            for lot in all_lots(case):
+            for lot in all_lots(heads_of(case)):
                 self.assertIs(is_lot(case, lot), True, lot)
 
     def test_what_is_none(self):
@@ -44,9 +38,9 @@ class Lots(unittest.TestCase):
         self.assertIs(is_lot(GROUPED, ((0, "void"), (3, "void"), (4, "void"))), True)
 
     def test_any_value(self):
-        lots = [repr(lot) for lot in all_lots(CASE)]
+        lots = [repr(lot) for lot in all_lots([0, 1])]
         things = odd_values()
-        for lot in all_lots(CASE):
+        for lot in all_lots([0, 1]):
             things.extend(spoiled(lot))
         for thing in things:
             self.assertIs(is_lot(CASE, thing), repr(thing) in lots, thing)
@@ -75,7 +69,7 @@ class Agrees(unittest.TestCase):
                     whole = lot_of(case, truth)
                     self.assertIs(is_lot(case, whole), True)
                     self.assertEqual([head for head, _ in whole], [doubt[0] for doubt in case.doubts()])
-                    for lot in all_lots(case):
+                    for lot in all_lots(heads_of(case)):
                         self.assertIs(agrees(case, lot, truth), set(lot) <= set(whole))
 
     def test_any_other_truth_is_refused(self):
@@ -105,7 +99,7 @@ class FoundAll(unittest.TestCase):
     def test_truths_are_those_that_agree(self):
         for arguments in made_cases(40):
             case = Case(*arguments)
-            for lot in all_lots(case)[::7]:
+            for lot in all_lots(heads_of(case))[::7]:
                 voids = len([word for _, word in lot if word == "void"])
                 if case.most() is not None and voids > case.most():
                     with self.assertRaises(Bound):

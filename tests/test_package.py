@@ -30,6 +30,28 @@ FUNCTIONS = {
         "is_lot": "case thing", "agrees": "case lot truth", "lot_of": "case truth", "found_all": "case lot",
     },
     "numbers": {"numbers": "case plot rule", "holders_many": "case plot rule"},
+    "odds": {
+        "chance": "case shares", "odds": "case plot rule shares", "added": "one other", "times": "one other",
+        "over": "one other",
+    },
+    "surely": {
+        "possible": "case plot rule", "is_sure": "case plot rule name", "sure_up_to": "case plot rule name",
+    },
+    "fewest": {
+        "fewest": "case plot rule", "least_truth": "case plot rule name", "least_against": "case plot rule name",
+        "by_word": "case plot rule head name",
+    },
+    "losing": {
+        "losing": "case plot rule name", "least_losing": "case plot rule name", "brought_back": "case plot rule name",
+    },
+    "warrants": {
+        "warrants": "case plot rule name", "is_warrant": "case plot rule name thing",
+        "warrants_in": "case plot rule name truth", "shortest_in": "case plot rule name truth",
+    },
+    "matters": {
+        "matters": "case plot rule", "idle": "case plot rule", "turned_by": "case plot rule head",
+        "turns": "case plot rule head",
+    },
 }
 METHODS = {
     ("cases", "Case"): {

@@ -1,0 +1,131 @@
+"""[51], [3] and [4], of all functions that are handed a Case and a plot."""
+
+import copy
+import random
+import unittest
+
+from samples import RULES, lively, lively_roll, made_shares, odd_values
+from soundtitle.cases import Case
+from soundtitle.errors import NoPlot
+from soundtitle.fewest import by_word, fewest, least_against, least_truth
+from soundtitle.losing import brought_back, least_losing, losing
+from soundtitle.matters import idle, matters, turned_by, turns
+from soundtitle.numbers import holders_many, numbers
+from soundtitle.odds import odds
+from soundtitle.rolls import plots
+from soundtitle.surely import is_sure, possible, sure_up_to
+from soundtitle.warrants import is_warrant, shortest_in, warrants, warrants_in
+
+# Functions with what they are asked besides the Case, the plot and the rule; the errors that may come behind NoPlot do.
+CALLS = [
+    (numbers, ()), (holders_many, ()), (possible, ()), (fewest, ()), (matters, ()), (idle, ()),
+    (is_sure, ("ann",)), (sure_up_to, ("bob",)), (least_truth, ("bob",)), (least_against, ("ann",)),
+    (losing, ("ann",)), (least_losing, ("bob",)), (brought_back, ("bob",)), (warrants, ("bob",)),
+    (is_warrant, ("ann", ((0, "void"),))),
+    (by_word, (0, "ann")), (by_word, (None, "ann")), (turned_by, (1,)), (turned_by, ([],)), (turns, (0,)),
+    (turns, (True,)), (warrants_in, ("ann", (0,))), (warrants_in, ("ann", None)), (shortest_in, ("bob", (1,))),
+    (shortest_in, ("bob", [])),
+]
+SHARES = made_shares(random.Random(6), range(5))
+UNLIKELY = {head: (1, 1) for head in range(5)}
+CALLS += [(odds, (SHARES,)), (odds, (UNLIKELY,))]
+YES_OR_NO = ("is_sure", "is_warrant")
+
+
+def made_case():
+    """A Case of five doubts, of which three may be void."""
+    return Case(lively_roll(random.Random(2), 5), {}, (), 3)
+
+
+def answer(function, case, plot, rule, besides):
+    """What a call returns, as it is written, or the class of the error."""
+    try:
+        return repr(function(case, plot, rule, *copy.deepcopy(besides)))
+    except ValueError as error:
+        return type(error).__name__
+
+
+def spoil(thing):
+    """Changes what a call returned, wherever it can be."""
+    if isinstance(thing, dict):
+        for part in thing.values():
+            spoil(part)
+        thing.clear()
+    elif isinstance(thing, (list, tuple)):
+        for part in thing:
+            spoil(part)
+        if isinstance(thing, list):
+            thing.append("spoiled")
+
+
+class Asked(unittest.TestCase):
+    def test_any_other_plot_is_refused_ahead_of_any_other_error(self):
+        case = made_case()
+        for function, besides in CALLS:
+            for thing in odd_values() + ["glen", "ann"]:
+                if not isinstance(thing, str) or thing not in plots(case.roll()):
+                    for rule in RULES[::11]:
+                        with self.assertRaises(NoPlot) as caught:
+                            function(case, thing, rule, *besides)
+                        self.assertIs(caught.exception.plot, thing)
+
+    def test_what_is_returned_may_be_changed(self):
+        for rule in RULES[::2]:
+            for function, besides in CALLS:
+                case = made_case()
+                expected = answer(function, made_case(), "acre", rule, besides)
+                for _ in range(2):
+                    try:
+                        spoil(function(case, "acre", rule, *besides))
+                    except ValueError:
+                        pass
+                    self.assertEqual(answer(function, case, "acre", rule, besides), expected, function.__name__)
+
+    def test_no_argument_is_changed(self):
+        case = made_case()
+        kept = (case.roll(), case.known(), case.groups(), case.most())
+        for function, besides in CALLS:
+            before = copy.deepcopy(besides)
+            answer_now = answer(function, case, "acre", RULES[3], besides)
+            try:
+                function(case, "acre", RULES[3], *besides)
+            except ValueError:
+                pass
+            self.assertEqual(repr(besides), repr(before))
+            self.assertEqual((case.roll(), case.known(), case.groups(), case.most()), kept)
+            self.assertEqual(answer(function, case, "acre", RULES[3], besides), answer_now)
+
+    def test_what_was_asked_ahead_changes_nothing(self):
+        source = random.Random(8)
+        for arguments, _, _ in lively(4, 5, 3):
+            case = Case(*arguments)
+            questions = [
+                (function, plot, rule, besides)
+                for function, besides in CALLS for plot in plots(arguments[0]) for rule in RULES[::4]
+                # The shares are those of five doubts.
+                if function != odds or len(case.doubts()) == 5
+            ]
+            for _ in range(2):
+                source.shuffle(questions)
+                for function, plot, rule, besides in questions:
+                    expected = answer(function, Case(*arguments), plot, rule, besides)
+                    self.assertEqual(answer(function, case, plot, rule, besides), expected, function.__name__)
+
+    def test_what_is_returned_is_in_order(self):
+        case = made_case()
+        for rule in RULES:
+            for function, besides in CALLS:
+                try:
+                    found = function(case, "acre", rule, *besides)
+                except ValueError:
+                    continue
+                if isinstance(found, dict):
+                    self.assertEqual(list(found), sorted(found), function.__name__)
+                elif isinstance(found, list):
+                    self.assertEqual(found, sorted(found), function.__name__)
+                if function.__name__ in YES_OR_NO:
+                    self.assertIn(repr(found), ("True", "False"))
+
+
+if __name__ == "__main__":
+    unittest.main()
