@@ -205,6 +205,41 @@ def told_doubts(roll, known, groups):
     return sorted([*groups, *[(number,) for number in alone]])
 
 
+def told_losses(roll, plot, rule, truth):
+    """The numbers of the moments at which somebody loses a plot by an override."""
+    line = told_states(roll, plot, rule, truth)
+    found = []
+    for at, (_, number, word) in enumerate(moments(roll, plot)):
+        # Who sells what he holds when the sale is drawn loses nothing by an override.
+        given = word == "drawn" and roll[1][number][1] == line[at][0]
+        if line[at][0] != line[at + 1][0] and not given:
+            found.append(at)
+    return found
+
+
+def told_standing(roll, plot, rule, truth):
+    """The tuples of the loans that stand, place by place, by the words of [7] once more, loan by loan."""
+    line = told_states(roll, plot, rule, truth)
+    rows = moments(roll, plot)
+    losses = told_losses(roll, plot, rule, truth)
+    found = [[] for _ in line]
+    for number, paper in enumerate(roll[1]):
+        if paper[0] != "loan" or paper[3] != plot or number in truth:
+            continue
+        begin = rows.index((paper[5], number, "drawn"))
+        if line[begin][0] != paper[1]:
+            continue
+        entered = len(rows) if paper[6] is None else rows.index((paper[6], number, "entered"))
+        ends = [at for at in losses if begin < at < entered]
+        for other, release in enumerate(roll[1]):
+            if release[:3] == ("release", paper[2], number) and other not in truth:
+                ends.append(rows.index((release[3], other, "drawn")))
+        ends = [at for at in ends if at > begin]
+        for at in range(begin, min(ends, default=len(rows))):
+            found[at + 1].append(number)
+    return [tuple(loans) for loans in found]
+
+
 def told_truths(roll, known, groups, most):
     """All truths of a Case of few papers, by the words of [40] once more: of all lots of papers, those that fit."""
     doubts = told_doubts(roll, known, groups)

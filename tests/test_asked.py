@@ -8,12 +8,18 @@ from samples import RULES, lively, lively_roll, made_shares, odd_values
 from soundtitle.cases import Case
 from soundtitle.errors import NoPlot
 from soundtitle.fewest import by_word, fewest, least_against, least_truth
+from soundtitle.healing import healers, heals, least_healing
+from soundtitle.joining import clears, least_clearing
+from soundtitle.loans import always, ends, ends_many, ever
+from soundtitle.looks import best_expected, best_looks, is_settled, looks_expected, looks_needed
 from soundtitle.losing import brought_back, least_losing, losing
 from soundtitle.matters import idle, matters, turned_by, turns
+from soundtitle.money import least_paid, most_paid, together
 from soundtitle.numbers import holders_many, numbers
 from soundtitle.odds import odds
 from soundtitle.rolls import plots
 from soundtitle.surely import is_sure, possible, sure_up_to
+from soundtitle.trees import best_tree, is_tree
 from soundtitle.warrants import is_warrant, shortest_in, warrants, warrants_in
 
 # Functions with what they are asked besides the Case, the plot and the rule; the errors that may come behind NoPlot do.
@@ -25,11 +31,17 @@ CALLS = [
     (by_word, (0, "ann")), (by_word, (None, "ann")), (turned_by, (1,)), (turned_by, ([],)), (turns, (0,)),
     (turns, (True,)), (warrants_in, ("ann", (0,))), (warrants_in, ("ann", None)), (shortest_in, ("bob", (1,))),
     (shortest_in, ("bob", [])),
+    (is_settled, ()), (looks_needed, ()), (best_looks, ()), (best_tree, ()), (is_tree, (("knows", "ann"),)),
+    (ends, ()), (ends_many, ()), (always, ()), (ever, ()), (least_paid, (5,)), (most_paid, (7,)), (most_paid, (0,)),
+    (together, (9, ["bob", "ann", "bob"])), (clears, (["cid", "ann", "bob", "dan"],)), (least_clearing, ()),
+    (heals, ("zoe", ["dan", "bob", "cid", "ann"])), (healers, ("ann",)), (healers, ("zoe",)),
+    (least_healing, ("bob", ["cid"])), (least_healing, ("zoe", [])),
 ]
 SHARES = made_shares(random.Random(6), range(5))
 UNLIKELY = {head: (1, 1) for head in range(5)}
-CALLS += [(odds, (SHARES,)), (odds, (UNLIKELY,))]
-YES_OR_NO = ("is_sure", "is_warrant")
+WITH_SHARES = (odds, looks_expected, best_expected)
+CALLS += [(function, (shares,)) for function in WITH_SHARES for shares in (SHARES, UNLIKELY)]
+YES_OR_NO = ("is_sure", "is_warrant", "is_settled", "is_tree", "clears", "heals")
 
 
 def made_case():
@@ -103,7 +115,7 @@ class Asked(unittest.TestCase):
                 (function, plot, rule, besides)
                 for function, besides in CALLS for plot in plots(arguments[0]) for rule in RULES[::4]
                 # The shares are those of five doubts.
-                if function != odds or len(case.doubts()) == 5
+                if function not in WITH_SHARES or len(case.doubts()) == 5
             ]
             for _ in range(2):
                 source.shuffle(questions)

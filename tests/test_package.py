@@ -52,6 +52,29 @@ FUNCTIONS = {
         "matters": "case plot rule", "idle": "case plot rule", "turned_by": "case plot rule head",
         "turns": "case plot rule head",
     },
+    "looks": {
+        "is_settled": "case plot rule", "looks_needed": "case plot rule", "best_looks": "case plot rule",
+        "looks_expected": "case plot rule shares", "best_expected": "case plot rule shares",
+    },
+    "trees": {
+        "is_tree": "case plot rule thing", "best_tree": "case plot rule", "depth": "tree",
+        "told_by": "tree case truth", "lots_of": "tree",
+    },
+    "loans": {
+        "standing": "roll plot rule truth", "ranks": "roll rule loans", "ends": "case plot rule",
+        "ends_many": "case plot rule", "always": "case plot rule", "ever": "case plot rule",
+    },
+    "money": {
+        "paid": "roll rule end amount", "least_paid": "case plot rule amount", "most_paid": "case plot rule amount",
+        "together": "case plot rule amount some",
+    },
+    "joining": {
+        "joined": "roll plot some buyer", "clears": "case plot rule some", "least_clearing": "case plot rule",
+    },
+    "healing": {
+        "signed": "roll plot name some", "heals": "case plot rule name some", "healers": "case plot rule name",
+        "least_healing": "case plot rule name barred",
+    },
 }
 METHODS = {
     ("cases", "Case"): {
