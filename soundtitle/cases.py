@@ -7,6 +7,10 @@ from soundtitle.forms import is_integer, is_roll, is_word
 from soundtitle.rolls import has_paper, is_truth_of
 
 
+# A roll that is quickly held against its description: the first one of a Case that is made of another one.
+_PLAIN = ((("a", "a"),), ())
+
+
 class Case:
     """A roll with the words that are known, the groups of doubts, and a bound on void doubts. It never changes."""
 
@@ -19,13 +23,7 @@ class Case:
             raise Wrong(2)
         if most is not None and not (is_integer(most) and most >= 0):
             raise Wrong(3)
-        self._roll = roll
-        self._known = {number: known[number] for number in sorted(known)}
-        self._groups = tuple(sorted(groups))
-        self._most = most
-        self._doubts = _doubts(roll, known, groups)
-        self._doubt_of = {number: doubt for doubt in self._doubts for number in doubt}
-        self._shelves = {}
+        self._keep(roll, known, tuple(sorted(groups)), most, _doubts(roll, known, groups))
 
     def __eq__(self, other):
         return (
@@ -93,23 +91,29 @@ class Case:
 
     def found(self, number, word):
         """The Case in which the doubt of a paper is known, all its papers with this word."""
-        if not has_paper(self._roll, number):
-            raise NoPaper(number)
-        if not is_word(word):
-            raise NoWord(word)
-        doubt = self.doubt_of(number)
-        if doubt is None:
-            raise Known(number)
-        most = self._most
-        if most is not None and word == "void":
-            if most == 0:
-                raise Bound()
-            most = most - 1
-        known = self.known()
-        for other in doubt:
-            known[other] = word
-        groups = tuple([group for group in self._groups if group != doubt])
-        return Case(self._roll, known, groups, most)
+        return self.found_each([(number, word)])
+
+    def found_each(self, words):
+        """The Case in which the words of some papers, a list of tuples (number, word), are found one behind another."""
+        known, most = self.known(), self._most
+        for number, word in words:
+            if not has_paper(self._roll, number):
+                raise NoPaper(number)
+            if not is_word(word):
+                raise NoWord(word)
+            if number in known:
+                raise Known(number)
+            if most is not None and word == "void":
+                if most == 0:
+                    raise Bound()
+                most = most - 1
+            for other in self._doubt_of[number]:
+                known[other] = word
+        # What is kept here is as described, and so is what is found: it need not be held against that once more.
+        case = Case(_PLAIN, {}, (), None)
+        groups = tuple([group for group in self._groups if group[0] not in known])
+        case._keep(self._roll, known, groups, most, [doubt for doubt in self._doubts if doubt[0] not in known])
+        return case
 
     def truth_with(self, heads):
         """The void papers if just the doubts with these heads are void."""
@@ -129,6 +133,15 @@ class Case:
             kept = (key, [])
             self._shelves[kind] = kept
         return kept[1]
+
+    def _keep(self, roll, known, groups, most, doubts):
+        self._roll = roll
+        self._known = {number: known[number] for number in sorted(known)}
+        self._groups = groups
+        self._most = most
+        self._doubts = doubts
+        self._doubt_of = {number: doubt for doubt in doubts for number in doubt}
+        self._shelves = {}
 
     def _voids(self, truth):
         return len([doubt for doubt in self._doubts if doubt[0] in truth])

@@ -2,7 +2,6 @@
 
 from itertools import combinations
 
-from soundtitle.cases import Case
 from soundtitle.errors import Bound, NoTruth
 from soundtitle.forms import is_integer, is_word
 
@@ -35,10 +34,7 @@ def found_all(case, lot):
     most = case.most()
     if most is not None and len([word for _, word in lot if word == "void"]) > most:
         raise Bound()
-    found = Case(case.roll(), case.known(), case.groups(), most)
-    for head, word in lot:
-        found = found.found(head, word)
-    return found
+    return case.found_each(lot)
 
 
 def has_head(case, thing):

@@ -13,6 +13,15 @@ LONG = long_roll(1)
 ARGUMENTS = (WIDE, {1: "void", 6: "sound"}, ((3, 5), (0, 2, 7)), 2)
 
 
+def told(case):
+    """All that a Case tells of itself."""
+    return [
+        case.roll(), list(case.known().items()), case.groups(), case.most(), case.doubts(), case.truths(), case.count(),
+        [case.doubt_of(number) for number in range(len(case.roll()[1]))],
+        [case.voids(truth) for truth in case.truths()],
+    ]
+
+
 class Made(unittest.TestCase):
     def assert_wrong(self, place, *arguments):
         with self.assertRaises(Wrong) as caught:
@@ -220,6 +229,36 @@ class Found(unittest.TestCase):
         )
         self.assertEqual(case.found(4, "sound").known(), {1: "void", 4: "sound", 6: "sound"})
         self.assertEqual(case, Case(*ARGUMENTS))
+
+    def test_it_is_like_one_that_is_made_so(self):
+        for arguments in made_cases(60):
+            roll, known, groups, most = arguments
+            case = Case(*arguments)
+            for number, doubt in [(number, doubt) for doubt in case.doubts() for number in doubt]:
+                for word in ("sound", "void"):
+                    if word == "sound" or most != 0:
+                        left = most if most is None or word == "sound" else most - 1
+                        other = Case(
+                            roll, {**known, **dict.fromkeys(doubt, word)},
+                            tuple(group for group in groups if group != doubt), left,
+                        )
+                        self.assertEqual(told(case.found(number, word)), told(other))
+                        self.assertTrue(case.found(number, word) == other)
+                        self.assertIs(type(case.found(number, word)), Case)
+
+    def test_found_of_found(self):
+        case = Case(*ARGUMENTS).found(5, "void").found(4, "sound")
+        self.assertEqual(told(case), told(Case(
+            WIDE, {1: "void", 3: "void", 4: "sound", 5: "void", 6: "sound"}, ((0, 2, 7),), 1
+        )))
+        for number in (1, 3, 4, 5, 6):
+            with self.assertRaises(Known):
+                case.found(number, "void")
+        self.assertEqual(case.found(0, "void").most(), 0)
+        with self.assertRaises(Bound):
+            Case(SMALL, {}, (), 1).found(0, "void").found(1, "void")
+        case.found(0, "sound").known().clear()
+        self.assertEqual(case.doubts(), [(0, 2, 7)])
 
     def test_the_bound(self):
         self.assertEqual(Case(SMALL, {}, (), 2).found(0, "void").most(), 1)

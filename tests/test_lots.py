@@ -115,6 +115,32 @@ class FoundAll(unittest.TestCase):
         self.assertEqual(found_all(GROUPED, ((0, "void"), (3, "void"))).most(), 0)
         self.assertEqual(found_all(CASE, ((0, "void"), (1, "void"))).most(), None)
 
+    def test_all_of_forty_doubts(self):
+        roll = long_roll(1)
+        for words in (["sound"] * 40, ["void", "sound"] * 20):
+            for groups, most in (((), None), (((3, 5), (7, 20, 31)), None), (((0, 39),), 25)):
+                case = Case(roll, {}, groups, most)
+                lot = tuple((head, words[head]) for head in heads_of(case))
+                expected = Case(
+                    roll, {number: word for head, word in lot for number in case.doubt_of(head)}, (),
+                    None if most is None else most - [word for _, word in lot].count("void"),
+                )
+                self.assertEqual(found_all(case, lot), expected)
+                for order in (lot, lot[::-1], lot[1::2] + lot[::2]):
+                    found = case
+                    for head, word in order:
+                        found = found.found(head, word)
+                    self.assertEqual(found, expected)
+                    self.assertEqual(list(found.known()), list(range(40)))
+                    self.assertEqual([found.truths(), found.doubts()], [expected.truths(), []])
+                self.assertEqual([len(case.doubts()), case.known()], [len(lot), {}])
+
+    def test_a_bound_that_is_left_is_told_ahead_of_all_else(self):
+        case = Case(long_roll(1), {}, (), 3)
+        with self.assertRaises(Bound):
+            found_all(case, tuple((head, "void") for head in range(4)))
+        self.assertEqual(found_all(case, tuple((head, "void") for head in range(3))).count(), 1)
+
     def test_forty_doubts(self):
         case = Case(long_roll(2), {}, (), None)
         lot = lot_of(case, tuple(range(0, 40, 2)))
