@@ -6,8 +6,7 @@ from soundtitle.errors import Bound, Known, NoPaper, NoTruth, NoWord, Wrong
 from soundtitle.forms import is_integer, is_roll, is_word
 from soundtitle.rolls import has_paper, is_truth_of
 
-
-# A roll that is quickly held against its description: the first one of a Case that is made of another one.
+# A Case that is made of another one begins with this roll, which is soon held against its description.
 _PLAIN = ((("a", "a"),), ())
 
 
@@ -55,8 +54,7 @@ class Case:
 
     def truths(self):
         """The ascending list of all truths."""
-        void = [number for number in self._known if self._known[number] == "void"]
-        rows = [(void, 0)]
+        rows = [(self._known_void(), 0)]
         cap = self.cap()
         for doubt in self._doubts:
             rows = rows + [(row + list(doubt), many + 1) for row, many in rows if many < cap]
@@ -117,22 +115,18 @@ class Case:
 
     def truth_with(self, heads):
         """The void papers if just the doubts with these heads are void."""
-        void = [number for number in self._known if self._known[number] == "void"]
+        void = self._known_void()
         for head in heads:
             void.extend(self._doubt_of[head])
         return tuple(sorted(void))
 
-    def shelf(self, kind, key):
-        """A list for what is worked out of the Case, of a kind and under a key, bare at first.
+    def shelf(self, key):
+        """A list for what is worked out of the Case under a key, bare at first.
 
-        Questions about one Case come one behind another: of each kind the list of the last key is kept, so that the
-        next of them finds what was worked out. What is told never depends on it.
+        Questions about one Case come one behind another, and the next of them finds what was worked out. What is told
+        never depends on it.
         """
-        kept = self._shelves.get(kind)
-        if kept is None or kept[0] != key:
-            kept = (key, [])
-            self._shelves[kind] = kept
-        return kept[1]
+        return self._shelves.setdefault(key, [])
 
     def _keep(self, roll, known, groups, most, doubts):
         self._roll = roll
@@ -142,6 +136,9 @@ class Case:
         self._doubts = doubts
         self._doubt_of = {number: doubt for doubt in doubts for number in doubt}
         self._shelves = {}
+
+    def _known_void(self):
+        return [number for number in self._known if self._known[number] == "void"]
 
     def _voids(self, truth):
         return len([doubt for doubt in self._doubts if doubt[0] in truth])

@@ -41,7 +41,7 @@ def _lightest(case, graph, some):
 
 def _many_with_sound(case, plot, rule, graph, head):
     """The dict from the names to how many truths in which a doubt is sound have them as the holder."""
-    kept = case.shelf("sound", (plot, rule, head))
+    kept = case.shelf(("sound", plot, rule, head))
     if not kept:
         # A truth in which the doubt is void counts nothing.
         kept.append(graph.weighed({doubt[0]: (1, 0) if doubt[0] == head else (1, 1) for doubt in case.doubts()}))

@@ -104,10 +104,7 @@ class Graph:
         self._open_heads = [_heads_at(self._spans, place) for place in range(len(self._deals) + 1)]
         self._bits = {doubt[0]: 1 << at for at, doubt in enumerate(case.doubts())}
         self._one_each = Measure({head: (1, 1) for head in self._bits}, case.cap())
-        # A layer is the dict from the states at a place to dicts from masks to tallies. It is made when it is needed.
-        self._layers = case.shelf("graph", (plot, rule))
-        if not self._layers:
-            self._layers.append({first_state(case.roll(), plot): {0: 1}})
+        self._layers = _layers_of(case, plot, rule)
 
     def places(self):
         """How many places there are."""
@@ -159,8 +156,14 @@ class Graph:
         return sum(self._by_voids(place, tally, self._one_each))
 
     def ends(self):
-        """The dict from the holders at the end to lists: in how many truths with 0, 1, 2 .. void doubts each is it."""
-        return self._by_holders(self._layer(len(self._deals)), self._one_each)
+        """The dict from the holders at the end to lists: in how many truths with 0, 1, 2 .. void doubts each is it.
+
+        It stays with the Case; nobody changes it.
+        """
+        kept = self._case.shelf(("numbers", self._plot, self._rule))
+        if not kept:
+            kept.append(self._by_holders(self._layer(len(self._deals)), self._one_each))
+        return kept[0]
 
     def weighed(self, weights):
         """The dict from the holders at the end to the sums of what the truths count in which each is it.
@@ -277,6 +280,18 @@ class Graph:
             if head not in self._spans or self._spans[head][0] >= place:
                 tally = measure.with_doubt(tally, head)
         return measure.by_voids(tally)
+
+
+def _layers_of(case, plot, rule):
+    """The list of the layers of a graph, that of the first place at least.
+
+    A layer is the dict from the states at a place to dicts from masks to tallies. It is made when it is needed. Layers
+    may be large: those of the last plot and rule alone stay with the Case.
+    """
+    kept = case.shelf(("graph",))
+    if not kept or kept[0] != (plot, rule):
+        kept[:] = [(plot, rule), [{first_state(case.roll(), plot): {0: 1}}]]
+    return kept[1]
 
 
 def graph_of(case, plot, rule):

@@ -66,7 +66,7 @@ def all_ends(case, plot, rule):
     roll = case.roll()
     if plot not in plots(roll):
         raise NoPlot(plot)
-    kept = case.shelf("ends", (plot, rule))
+    kept = case.shelf(("ends", plot, rule))
     if not kept:
         truths = truths_of(case)
         steps = [(truths.void_in[step[0]], step) for step in loan_steps(roll, plot)]

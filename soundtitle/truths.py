@@ -21,10 +21,10 @@ class Truths:
                 if number in self._of_heads:
                     self._of_heads[number] = self._of_heads[number] | (1 << at)
         self.void_in = [self._with_void(case, number) for number in range(len(case.roll()[1]))]
-        self._by_voids = [0] * (case.cap() + 1)
+        self._alike = [0] * (case.cap() + 1)
         for at, row in enumerate(self.rows):
             many = len([head for head in self.heads if head in row])
-            self._by_voids[many] = self._by_voids[many] | (1 << at)
+            self._alike[many] = self._alike[many] | (1 << at)
 
     def agreeing(self, lot):
         """The set of the truths that agree with a lot."""
@@ -46,7 +46,7 @@ class Truths:
     def least(self, some):
         """The ascending list of the places of the members of a set of which no lesser part is a member."""
         found = []
-        for alike in self._by_voids:
+        for alike in self._alike:
             # Of those with as many void doubts none is a part of another.
             places = members(some & alike)
             for at in places:
@@ -67,7 +67,7 @@ class Truths:
 
 def truths_of(case):
     """The Truths of a Case; nobody changes them."""
-    kept = case.shelf("truths", ())
+    kept = case.shelf(("truths",))
     if not kept:
         kept.append(Truths(case))
     return kept[0]
@@ -77,7 +77,7 @@ def holding(case, plot, rule):
     """The dict from the names that may hold a plot, any value, to the sets of truths; nobody changes it."""
     if plot not in plots(case.roll()):
         raise NoPlot(plot)
-    kept = case.shelf("holding", (plot, rule))
+    kept = case.shelf(("holding", plot, rule))
     if not kept:
         truths = truths_of(case)
         kept.append(holding_in(case.roll(), plot, rule, truths.every, truths.void_in))

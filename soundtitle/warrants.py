@@ -8,7 +8,7 @@ from soundtitle.truths import holding, truths_of
 def warrants(case, plot, rule, name):
     """The ascending list of the least warrants for a name."""
     held = holding(case, plot, rule).get(name, 0)
-    kept = case.shelf("warrants", (plot, rule, name))
+    kept = case.shelf(("warrants", plot, rule, name))
     if not kept:
         found = []
         truths = truths_of(case)

@@ -303,6 +303,13 @@ def asked(many, doubts=8):
     return found
 
 
+def shuffled(roll, seed):
+    """A roll without releases, the papers of which stand in another order: numbers do not go with days any more."""
+    papers = list(roll[1])
+    random.Random(seed).shuffle(papers)
+    return (roll[0], tuple(papers))
+
+
 def lively_roll(source, size):
     """A roll whose papers hang together: mostly who sells or borrows has held the plot, and releases are in place."""
     people = ["ann", "bob", "cid", "dan"]

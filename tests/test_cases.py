@@ -335,20 +335,19 @@ class Equal(unittest.TestCase):
     def test_what_was_asked_ahead_changes_nothing(self):
         one = Case(*ARGUMENTS)
         one.found(4, "void")
-        one.shelf("graph", "key").append(1)
+        one.shelf("key").append(1)
         self.assertTrue(one == Case(*ARGUMENTS))
 
 
 class Shelf(unittest.TestCase):
-    def test_of_each_kind_the_list_of_the_last_key_is_kept(self):
+    def test_the_list_of_each_key_is_kept(self):
         case = Case(SMALL, {}, (), None)
-        one = case.shelf("graph", ("acre", 1))
+        one = case.shelf(("acre", 1))
+        self.assertEqual(one, [])
         one.append(7)
-        self.assertEqual(case.shelf("truths", ("acre", 1)), [])
-        self.assertIs(case.shelf("graph", ("acre", 1)), one)
-        self.assertEqual(case.shelf("graph", ("acre", 2)), [])
-        self.assertEqual(case.shelf("graph", ("acre", 1)), [])
-        self.assertEqual(one, [7])
+        self.assertEqual(case.shelf(("acre", 2)), [])
+        self.assertIs(case.shelf(("acre", 1)), one)
+        self.assertEqual(case.found(0, "sound").shelf(("acre", 1)), [])
 
 
 if __name__ == "__main__":

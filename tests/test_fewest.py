@@ -3,8 +3,8 @@
 import unittest
 
 from samples import (
-    BARE, RULE, RULES, SMALL, WIDE, asked, lively, long_roll, odd_values, told_doubts, told_holders, told_states,
-    told_voids,
+    BARE, RULE, RULES, SMALL, WIDE, asked, lively, long_roll, odd_values, shuffled, told_doubts, told_holders,
+    told_states, told_voids,
 )
 from soundtitle.cases import Case
 from soundtitle.errors import NoHead, NoPlot
@@ -84,22 +84,32 @@ class Forty(unittest.TestCase):
             (0, {}, (), None), (1, {4: "void", 9: "sound"}, ((2, 7), (11, 30)), None), (2, {}, ((5, 6, 7),), 6),
         ):
             roll = long_roll(seed, ("sale", "sale", "sale", "loan"))
-            case = Case(roll, known, groups, most)
-            for rule in RULES[seed::3]:
-                least = {}
-                for name, many in numbers(case, "acre", rule):
-                    least.setdefault(name, many)
-                self.assertEqual(list(fewest(case, "acre", rule).items()), list(least.items()))
-                for name, many in least.items():
-                    truth = least_truth(case, "acre", rule, name)
-                    self.assertEqual([case.voids(truth), holder(roll, "acre", rule, truth)], [many, name])
-                    elsewhere = [least[other] for other in least if other != name]
-                    truth = least_against(case, "acre", rule, name)
-                    if elsewhere:
-                        self.assertEqual(case.voids(truth), min(elsewhere))
-                        self.assertNotEqual(holder(roll, "acre", rule, truth), name)
-                    else:
-                        self.assertIs(truth, None)
+            self.assert_least(roll, Case(roll, known, groups, most), RULES[seed::3])
+
+    def test_numbers_that_do_not_go_with_days(self):
+        for seed in range(5):
+            roll = shuffled(long_roll(seed), seed)
+            self.assert_least(roll, Case(roll, {}, (), None), RULES[seed::3])
+            roll = shuffled(long_roll(seed + 20, ("sale", "sale", "loan")), seed)
+            known = {number: "sound" for number in range(3, 40, 4)}
+            self.assert_least(roll, Case(roll, known, (), 9), RULES[seed::2])
+
+    def assert_least(self, roll, case, some):
+        for rule in some:
+            least = {}
+            for name, many in numbers(case, "acre", rule):
+                least.setdefault(name, many)
+            self.assertEqual(list(fewest(case, "acre", rule).items()), list(least.items()))
+            for name, many in least.items():
+                truth = least_truth(case, "acre", rule, name)
+                self.assertEqual([case.voids(truth), holder(roll, "acre", rule, truth)], [many, name])
+                elsewhere = [least[other] for other in least if other != name]
+                truth = least_against(case, "acre", rule, name)
+                if elsewhere:
+                    self.assertEqual(case.voids(truth), min(elsewhere))
+                    self.assertNotEqual(holder(roll, "acre", rule, truth), name)
+                else:
+                    self.assertIs(truth, None)
 
     def test_two_void_papers_at_most(self):
         roll = long_roll(3)

@@ -1,11 +1,13 @@
 """[41], with [40]; [3] and [4] as far as they speak of it."""
 
+import itertools
+import random
 import unittest
 
 from samples import BARE, SMALL, WIDE, all_lots, long_roll, made_cases, odd_values, spoiled
 from soundtitle.cases import Case
 from soundtitle.errors import Bound, NoTruth
-from soundtitle.lots import agrees, found_all, is_lot, lot_of
+from soundtitle.lots import agrees, found_all, is_lot, least_lots, lot_of
 
 CASE = Case(SMALL, {}, (), None)
 GROUPED = Case(WIDE, {1: "void", 6: "sound"}, ((3, 5), (0, 2, 7)), 2)
@@ -80,6 +82,19 @@ class Agrees(unittest.TestCase):
                     with self.assertRaises(NoTruth) as caught:
                         call()
                     self.assertIs(caught.exception.truth, thing)
+
+
+class LeastLots(unittest.TestCase):
+    def test_those_of_which_no_lesser_part_is_enough(self):
+        source = random.Random(1)
+        some = ["ann", "bob", "cid", "dan"]
+        parts = [part for many in range(5) for part in itertools.combinations(some, many)]
+        for _ in range(200):
+            # What is enough need not be so with more.
+            fine = source.sample(parts, source.randint(0, 9))
+            least = [part for part in fine if not any(set(other) < set(part) for other in fine)]
+            self.assertEqual(least_lots(some, lambda part: part in fine), sorted(least))
+        self.assertEqual(least_lots([], lambda part: True), [()])
 
 
 class FoundAll(unittest.TestCase):
