@@ -8,7 +8,7 @@ from soundtitle.moments import moments
 from soundtitle.papers import drawn_on, entered_on
 from soundtitle.rolls import is_truth_of, plots
 from soundtitle.truths import led, many_in, truths_of
-from soundtitle.walks import deals, first_state, is_override, state_behind
+from soundtitle.walks import deals, first_state, is_loss, state_behind
 
 
 def standing(roll, plot, rule, truth):
@@ -94,10 +94,9 @@ def end_behind(roll, rule, step, end, is_sound):
     number, word, deal, safe = step
     state, loans = end
     if deal is not None:
-        behind = state_behind(rule, deal, state, is_sound)
-        if behind[0] != state[0] and is_override(rule, deal, state, is_sound):
+        if is_loss(rule, deal, state, is_sound):
             loans = tuple([loan for loan in loans if loan in safe])
-        return (behind, loans)
+        return (state_behind(rule, deal, state, is_sound), loans)
     if word == "drawn" and is_sound:
         loans = _loans_behind(roll, number, state[0], loans)
     return (state, loans)

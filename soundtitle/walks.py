@@ -34,9 +34,8 @@ def overrides(roll, plot, rule, truth):
     line = states(roll, plot, rule, truth)
     found = []
     for at, deal in enumerate(deals(roll, plot)):
-        loser, winner = line[at][0], line[at + 1][0]
-        if loser != winner and is_override(rule, deal, line[at], is_sound_in(deal, truth)):
-            found.append((at + 1, loser, winner))
+        if is_loss(rule, deal, line[at], is_sound_in(deal, truth)):
+            found.append((at + 1, line[at][0], line[at + 1][0]))
     return found
 
 
@@ -73,11 +72,11 @@ def state_behind(rule, deal, state, is_sound):
         return state
     word, number, seller, buyer, _, entered = deal
     name, base, row = state
-    if is_override(rule, deal, state, is_sound):
+    if _is_override(rule, deal, state, is_sound):
         # The row is bare already where a sale overrides when it is drawn: "innocent" never puts a number there.
-        return (buyer, _base_behind(rule, deal, base, is_sound), ())
+        return (buyer, base_behind(rule, deal, base, is_sound), ())
     if word == "entered":
-        return (name, _base_behind(rule, deal, base, is_sound), _row_behind(row, number, seller == base))
+        return (name, base_behind(rule, deal, base, is_sound), _row_behind(row, number, seller == base))
     if not is_sound or seller != name:
         return state
     if entered and rule[0] in ("entered", "both"):
@@ -85,10 +84,24 @@ def state_behind(rule, deal, state, is_sound):
     return (buyer, base, row)
 
 
-def is_override(rule, deal, state, is_sound):
-    """Whether a sale overrides at its moment, be it somebody who is the holder already."""
+def base_behind(rule, deal, base, is_sound):
+    """The base behind a moment, from the one ahead of it; nothing else of the state is asked for it."""
     if deal is None:
-        return False
+        return base
+    word, _, seller, buyer, _, _ = deal
+    if word == "entered" and seller == base and (is_sound or rule[1] != "never"):
+        return buyer
+    return base
+
+
+def is_loss(rule, deal, state, is_sound):
+    """Whether somebody loses the plot by an override at a moment."""
+    # An override of who is the holder already takes nothing away.
+    return deal is not None and deal[3] != state[0] and _is_override(rule, deal, state, is_sound)
+
+
+def _is_override(rule, deal, state, is_sound):
+    """Whether a sale overrides at its moment, be it somebody who is the holder already."""
     word, number, seller, _, innocent, _ = deal
     prior, forged = rule
     name, base, row = state
@@ -99,13 +112,6 @@ def is_override(rule, deal, state, is_sound):
     if is_sound:
         return prior == "entered" or (prior == "both" and innocent)
     return forged == "once" and prior != "drawn" and innocent
-
-
-def _base_behind(rule, deal, base, is_sound):
-    word, _, seller, buyer, _, _ = deal
-    if word == "entered" and seller == base and (is_sound or rule[1] != "never"):
-        return buyer
-    return base
 
 
 def _row_behind(row, number, is_of_base):

@@ -149,8 +149,8 @@ def long_roll(seed, kinds=("sale",)):
     return ((("acre", "ann"),), tuple(tuple(paper) for paper in papers))
 
 
-def told_states(roll, plot, rule, truth):
-    """The states of a plot, by the words of [5] and [6] once more, step by step."""
+def told_states(roll, plot, rule, truth, later=None, change=None):
+    """The states of a plot, by the words of [5] and [6] once more, step by step; and of [83], if the rule changes."""
     prior, forged = rule
     shown = holder = base = first_of(roll, plot)
     rows = moments(roll, plot)
@@ -162,6 +162,10 @@ def told_states(roll, plot, rule, truth):
         if word == "entered" and paper[0] == "sale" and paper[1] == ahead[-1]:
             ahead.append(paper[2])
     for day, number, word in rows:
+        if later is not None and day >= change:
+            base, row = told_states(roll, plot, later, truth)[len(line) - 1][1], []
+            prior, forged = later
+            later = None
         paper = roll[1][number]
         if paper[0] != "sale":
             line.append((holder, base, tuple(row)))
@@ -343,6 +347,36 @@ def lively(many, size, seed=1):
         arguments = _made_case(source, lively_roll(source, size))
         found.append((arguments, source.choice(plots(arguments[0])), RULES[at % 12]))
     return found
+
+
+def small_cases(many, doubts=6):
+    """Arguments of small Cases of both kinds, with the dict from the rules to that from plots to told holders.
+
+    The inner dicts lead from all truths of the Case, ascending, to who holds the plot.
+    """
+    found = [arguments for arguments in made_cases(many) if len(told_doubts(*arguments[:3])) <= doubts]
+    found += [arguments for arguments, _, _ in lively(many, doubts, 21)]
+    for arguments in found:
+        yield arguments, {
+            rule: {plot: told_holders(arguments, plot, rule) for plot in plots(arguments[0])} for rule in RULES
+        }
+
+
+def hanging_roll(seed):
+    """A roll of one plot and forty sales as long_roll makes them, each by one who has got it by an earlier one."""
+    source = random.Random(seed)
+    people = ["ann", "bob", "cid", "dan", "eve", "fay", "gil", "hal"]
+    papers, waiting, held, day = [], [], ["ann"], 0
+    while len(papers) < 40 or waiting:
+        day += source.choice([0, 1, 1])
+        if len(papers) < 40 and len(waiting) < 9 and (len(waiting) < 6 or source.random() < 0.6):
+            waiting.append(len(papers))
+            one = source.choice(held[-5:])
+            held.append(source.choice([name for name in people if name != one]))
+            papers.append(["sale", one, held[-1], ("acre",), day])
+        else:
+            papers[waiting.pop(source.randrange(len(waiting)))].append(day)
+    return ((("acre", "ann"),), tuple(tuple(paper) for paper in papers))
 
 
 def made_shares(source, heads):

@@ -4,12 +4,15 @@ import copy
 import random
 import unittest
 
-from samples import RULES, lively, lively_roll, made_shares, odd_values
+from samples import FORGED, RULES, lively, lively_roll, made_shares, odd_values
 from soundtitle.cases import Case
+from soundtitle.changes import days_safe, holders_changed
 from soundtitle.errors import NoPlot
 from soundtitle.fewest import by_word, fewest, least_against, least_truth
+from soundtitle.fund import claims_most_of, least_claims, most_claims
 from soundtitle.healing import healers, heals, least_healing
 from soundtitle.joining import clears, least_clearing
+from soundtitle.late import differs, reaches
 from soundtitle.loans import always, ends, ends_many, ever
 from soundtitle.looks import best_expected, best_looks, is_settled, looks_expected, looks_needed
 from soundtitle.losing import brought_back, least_losing, losing
@@ -17,6 +20,7 @@ from soundtitle.matters import idle, matters, turned_by, turns
 from soundtitle.money import least_paid, most_paid, together
 from soundtitle.numbers import holders_many, numbers
 from soundtitle.odds import odds
+from soundtitle.parting import pairs_many, parted_by, parted_many
 from soundtitle.rolls import plots
 from soundtitle.surely import is_sure, possible, sure_up_to
 from soundtitle.trees import best_tree, is_tree
@@ -36,6 +40,10 @@ CALLS = [
     (together, (9, ["bob", "ann", "bob"])), (clears, (["cid", "ann", "bob", "dan"],)), (least_clearing, ()),
     (heals, ("zoe", ["dan", "bob", "cid", "ann"])), (healers, ("ann",)), (healers, ("zoe",)),
     (least_healing, ("bob", ["cid"])), (least_healing, ("zoe", [])),
+    (parted_many, (("drawn", "next"),)), (parted_by, (("entered", "once"),)), (pairs_many, (("both", "never"),)),
+    (holders_changed, (("innocent", "never"), 3)), (days_safe, (("both", "once"), "ann")),
+    (days_safe, (("drawn", "never"), "bob")), (most_claims, ()), (least_claims, ()), (claims_most_of, ()),
+    (differs, (0, FORGED)), (differs, (9, None)), (differs, (2, None)), (reaches, (1, FORGED)), (reaches, ([], None)),
 ]
 SHARES = made_shares(random.Random(6), range(5))
 UNLIKELY = {head: (1, 1) for head in range(5)}

@@ -75,6 +75,27 @@ FUNCTIONS = {
         "signed": "roll plot name some", "heals": "case plot rule name some", "healers": "case plot rule name",
         "least_healing": "case plot rule name barred",
     },
+    "parting": {
+        "parted_many": "case plot one other", "parted_by": "case plot one other", "pairs_many": "case plot one other",
+    },
+    "stories": {
+        "fewest_papers": "one other", "story": "one other", "is_story": "one other thing", "doctrine_by": "told",
+    },
+    "changes": {
+        "changed": "roll plot rule later day truth", "holders_changed": "case plot rule later day",
+        "days_safe": "case plot rule later name",
+    },
+    "fund": {
+        "claims": "roll plot rule truth", "most_claims": "case plot rule", "least_claims": "case plot rule",
+        "claims_most_of": "case plot rule",
+    },
+    "joint": {
+        "joint": "case plots rule", "sure_of_many": "case rule name", "may_have": "case rule name",
+        "sure_of_one": "case plots rule name", "bound_plots": "case rule",
+    },
+    "late": {
+        "late": "case at paper word", "differs": "case plot rule at paper", "reaches": "case plot rule at paper",
+    },
 }
 METHODS = {
     ("cases", "Case"): {
