@@ -14,13 +14,12 @@ def fewest(case, plot, rule):
 
 def least_truth(case, plot, rule, name):
     """A truth with as few void doubts as can be in which a name holds the plot, or None."""
-    return _lightest(case, graph_of(case, plot, rule), [name])
+    return graph_of(case, plot, rule).lightest(name, True)
 
 
 def least_against(case, plot, rule, name):
     """A truth with as few void doubts as can be in which a name does not hold the plot, or None."""
-    graph = graph_of(case, plot, rule)
-    return _lightest(case, graph, [other for other in graph.ends() if other != name])
+    return graph_of(case, plot, rule).lightest(name, False)
 
 
 def by_word(case, plot, rule, head, name):
@@ -30,13 +29,6 @@ def by_word(case, plot, rule, head, name):
         raise NoHead(head)
     sound = _many_with_sound(case, plot, rule, graph, head).get(name, 0)
     return (sound, sum(graph.ends().get(name, [])) - sound)
-
-
-def _lightest(case, graph, some):
-    heads = graph.lightest(some)
-    if heads is None:
-        return None
-    return case.truth_with(heads)
 
 
 def _many_with_sound(case, plot, rule, graph, head):

@@ -2,9 +2,9 @@
 
 from soundtitle.cases import Case
 from soundtitle.errors import NoNode, NoPlace, NoPlot, NoTruth, Wrong
-from soundtitle.forms import is_integer, is_name, is_rule
+from soundtitle.forms import is_integer, is_rule
 from soundtitle.layers import Counts, Lightest, Way, by_key, layer_behind, led_on
-from soundtitle.lots import is_told, word_in
+from soundtitle.lots import word_in
 from soundtitle.rolls import plots
 from soundtitle.walks import states
 
@@ -25,7 +25,8 @@ class Graph:
         self._way = Way(case, plot)
         self._behind = self._way.behind(rule)
         self._counts = Counts({head: (1, 1) for head in self._way.bits}, case.cap())
-        self._layers = self._kept_layers()
+        # They are made when they are needed.
+        self._layers = [{self._way.first: {0: self._counts.start}}]
 
     def places(self):
         """How many places there are."""
@@ -76,7 +77,7 @@ class Graph:
         """How many truths of the Case come to a node at a place."""
         self._check_place(place)
         worth = 0
-        if is_node(node) and [head for head, _ in node[1]] == self._way.open_heads[place]:
+        if self._way.is_node(place, node):
             worth = self._layer(place).get(node[0], {}).get(self._way.mask(node[1]), 0)
         if worth == 0:
             raise NoNode(node)
@@ -85,12 +86,13 @@ class Graph:
     def ends(self):
         """The dict from the holders at the end to lists: in how many truths with 0, 1, 2 .. void doubts each is it.
 
-        It stays with the Case; nobody changes it.
+        Nobody changes it.
         """
-        kept = self._case.shelf(("numbers", self._plot, self._rule))
-        if not kept:
-            kept.append(self._by_holders(self._layer(self._way.last), self._counts))
-        return kept[0]
+        return self._end()[1]
+
+    def last_states(self):
+        """The ascending list of the states at the last place; nobody changes it. No doubt is open there."""
+        return self._end()[0]
 
     def weighed(self, weights):
         """The dict from the holders at the end to the sums of what the truths count in which each is it.
@@ -102,34 +104,29 @@ class Graph:
         found = self._by_holders(self._led(measure), measure)
         return {name: sum(found[name]) for name in found}
 
-    def lightest(self, some):
-        """The heads of the void doubts of a truth with as few of them as can be in which one of some names holds.
-
-        None if there is no such truth.
-        """
+    def lightest(self, name, is_holder):
+        """A truth with as few void doubts as can be in which a name is the holder, or is not, or None."""
         measure = Lightest(self._way)
         kept = self._case.shelf(("lightest", self._plot, self._rule))
         if not kept:
             kept.append(by_key(self._led(measure), measure, lambda state: state[0]))
-        worths = [worth for name, worth in kept[0].items() if name in some]
+        worths = [worth for other, worth in kept[0].items() if (other == name) == is_holder]
         if not worths:
             return None
-        return measure.void_heads(min(worths))
+        return self._case.truth_with(measure.void_heads(min(worths)))
 
     def _check_place(self, place):
         if not is_integer(place) or not 0 <= place <= self._way.last:
             raise NoPlace(place)
 
-    def _kept_layers(self):
-        """The list of the layers, that of the first place at least; they are made when they are needed.
-
-        Layers may be large: those of the last plot and rule alone stay with the Case.
-        """
-        kept = self._case.shelf(("graph",))
-        asked = (self._plot, self._rule)
-        if not kept or kept[0] != asked:
-            kept[:] = [asked, [{self._way.first: {0: self._counts.start}}]]
-        return kept[1]
+    def _end(self):
+        """The tuple of the states at the last place and of what the truths come to there. It stays with the Case."""
+        kept = self._case.shelf(("end", self._plot, self._rule))
+        if not kept:
+            # Layers may be large: none of them is kept for this.
+            layer = self._led(self._counts)
+            kept.append((sorted(layer), self._by_holders(layer, self._counts)))
+        return kept[0]
 
     def _layer(self, place):
         while len(self._layers) <= place:
@@ -153,19 +150,3 @@ def graph_of(case, plot, rule):
     if plot not in plots(case.roll()):
         raise NoPlot(plot)
     return Graph(case, plot, rule)
-
-
-def is_node(thing):
-    """Whether a thing, any value, is a node by its form: a state, and a lot of words of any doubts in any order."""
-    if not isinstance(thing, tuple) or len(thing) != 2 or not _is_state(thing[0]):
-        return False
-    return isinstance(thing[1], tuple) and all([is_told(part) for part in thing[1]])
-
-
-def _is_state(thing):
-    if not isinstance(thing, tuple) or len(thing) != 3 or not is_name(thing[0]) or not is_name(thing[1]):
-        return False
-    row = thing[2]
-    if not isinstance(row, tuple) or not all([is_integer(number) and number >= 0 for number in row]):
-        return False
-    return len(set(row)) == len(row)

@@ -24,15 +24,15 @@ def healers(case, plot, rule, name):
     graph = graph_of(case, plot, rule)
     shown = shown_at(case.roll(), plot)[-1]
     found = []
-    for node in graph.nodes(graph.places() - 1):
-        holder, base, _ = node[0]
+    for state in graph.last_states():
+        holder, base, _ = state
         some = None
         if holder != name:
             some = [holder]
             if rule[0] == "entered" or (rule[0] in ("innocent", "both") and base == shown):
                 some.append(base)
             some = tuple([one for one in sorted(set(some)) if one != name])
-        found.append((node, some))
+        found.append(((state, ()), some))
     return found
 
 

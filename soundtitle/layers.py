@@ -5,6 +5,8 @@ are open there: it has one bit for each that is void. What a worth tells of the 
 is known to its measure, which is one of the classes Counts, Marks and Lightest.
 """
 
+from soundtitle.forms import is_integer, is_name
+from soundtitle.lots import is_told
 from soundtitle.moments import moments
 from soundtitle.truths import members
 from soundtitle.walks import deals, first_state, state_behind
@@ -75,6 +77,25 @@ class Way:
     def mask(self, words):
         """The mask that tells a lot of words."""
         return sum([self.bits[head] for head, word in words if word == "void"])
+
+    def is_node(self, place, thing):
+        """Whether a thing, any value, is by its form a node at a place: a state, and the words that are open there."""
+        if not isinstance(thing, tuple) or len(thing) != 2 or not _is_state(thing[0]):
+            return False
+        words = thing[1]
+        if not isinstance(words, tuple) or not all([is_told(part) for part in words]):
+            return False
+        return [head for head, _ in words] == self.open_heads[place]
+
+    def nodes_behind(self, place, node, behind):
+        """The list of the nodes behind one at a place, for all words that the next moment lets, whatever the bound."""
+        state, words = node
+        rows = {self.mask(words): 0}
+        found = []
+        for branch in self.branches[place]:
+            for _, mask, _ in branch.moved(rows):
+                found.append((behind(place, state, branch.is_sound), self.words(place + 1, mask)))
+        return found
 
     def unasked(self, place):
         """The heads of the doubts that have no moment ahead of a place."""
@@ -226,6 +247,15 @@ def by_key(layer, measure, key):
         into = found.setdefault(key(state), {})
         measure.put(into, [(0, 0, worth) for worth in rows.values()])
     return {told: found[told][0] for told in sorted(found)}
+
+
+def _is_state(thing):
+    if not isinstance(thing, tuple) or len(thing) != 3 or not is_name(thing[0]) or not is_name(thing[1]):
+        return False
+    row = thing[2]
+    if not isinstance(row, tuple) or not all([is_integer(number) and number >= 0 for number in row]):
+        return False
+    return len(set(row)) == len(row)
 
 
 def _head_of(case, number):

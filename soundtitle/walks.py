@@ -72,16 +72,17 @@ def state_behind(rule, deal, state, is_sound):
         return state
     word, number, seller, buyer, _, entered = deal
     name, base, row = state
-    if _is_override(rule, deal, state, is_sound):
-        # The row is bare already where a sale overrides when it is drawn: "innocent" never puts a number there.
-        return (buyer, base_behind(rule, deal, base, is_sound), ())
+    overrides_now = _is_override(rule, deal, state, is_sound)
     if word == "entered":
-        return (name, base_behind(rule, deal, base, is_sound), _row_behind(row, number, seller == base))
-    if not is_sound or seller != name:
-        return state
-    if entered and rule[0] in ("entered", "both"):
-        row = row + (number,)
-    return (buyer, base, row)
+        behind = base_behind(rule, deal, base, is_sound)
+        if overrides_now:
+            return (buyer, behind, ())
+        return (name, behind, _row_behind(row, number, seller == base))
+    if is_sound and seller == name:
+        if entered and rule[0] in ("entered", "both"):
+            row = row + (number,)
+        return (buyer, base, row)
+    return (buyer, base, row) if overrides_now else state
 
 
 def base_behind(rule, deal, base, is_sound):
@@ -105,10 +106,12 @@ def _is_override(rule, deal, state, is_sound):
     word, number, seller, _, innocent, _ = deal
     prior, forged = rule
     name, base, row = state
-    if seller != base or number in row:
+    if seller != base:
         return False
     if word == "drawn":
         return is_sound and seller != name and prior == "innocent" and innocent
+    if number in row:
+        return False
     if is_sound:
         return prior == "entered" or (prior == "both" and innocent)
     return forged == "once" and prior != "drawn" and innocent

@@ -5,7 +5,9 @@ import itertools
 import random
 
 from soundtitle import errors
+from soundtitle.book import Book
 from soundtitle.cases import Case
+from soundtitle.desk import Desk
 from soundtitle.graph import Graph
 from soundtitle.moments import moments
 from soundtitle.rolls import first_of, names, plots, with_paper
@@ -58,6 +60,7 @@ def odd_values():
         errors.TitleError(), errors.Wrong(2), errors.NoPlot([]), [errors.Bound()], (errors.Needed(0, 1),),
         FORGED, list(FORGED), SMALL, list(SMALL), ("drawn", "never"),
         Case(SMALL, {}, (), None), [Case(SMALL, {0: "void"}, (), 1)], Graph(Case(BARE, {}, (), 0), "acre", RULE),
+        Book((("weir", "zoe"),)), (Desk((("weir", "zoe"),)),),
     ]
 
 

@@ -8,6 +8,7 @@ from samples import FORGED, RULES, lively, lively_roll, made_shares, odd_values
 from soundtitle.cases import Case
 from soundtitle.changes import days_safe, holders_changed
 from soundtitle.errors import NoPlot
+from soundtitle.extracts import behind, extract, is_extract
 from soundtitle.fewest import by_word, fewest, least_against, least_truth
 from soundtitle.fund import claims_most_of, least_claims, most_claims
 from soundtitle.healing import healers, heals, least_healing
@@ -18,6 +19,7 @@ from soundtitle.looks import best_expected, best_looks, is_settled, looks_expect
 from soundtitle.losing import brought_back, least_losing, losing
 from soundtitle.matters import idle, matters, turned_by, turns
 from soundtitle.money import least_paid, most_paid, together
+from soundtitle.notes import least_telling
 from soundtitle.numbers import holders_many, numbers
 from soundtitle.odds import odds
 from soundtitle.parting import pairs_many, parted_by, parted_many
@@ -44,12 +46,14 @@ CALLS = [
     (holders_changed, (("innocent", "never"), 3)), (days_safe, (("both", "once"), "ann")),
     (days_safe, (("drawn", "never"), "bob")), (most_claims, ()), (least_claims, ()), (claims_most_of, ()),
     (differs, (0, FORGED)), (differs, (9, None)), (differs, (2, None)), (reaches, (1, FORGED)), (reaches, ([], None)),
+    (extract, ("ann",)), (extract, ("dan",)), (is_extract, ("ann", [[(("ann", "ann", ()), ())]])), (behind, ([], None)),
+    (behind, (0, (("ann", "ann", ()), ()))), (least_telling, ("bob", ((0, "sound"),), ((1, "void"), (2, "sound")))),
 ]
 SHARES = made_shares(random.Random(6), range(5))
 UNLIKELY = {head: (1, 1) for head in range(5)}
 WITH_SHARES = (odds, looks_expected, best_expected)
 CALLS += [(function, (shares,)) for function in WITH_SHARES for shares in (SHARES, UNLIKELY)]
-YES_OR_NO = ("is_sure", "is_warrant", "is_settled", "is_tree", "clears", "heals")
+YES_OR_NO = ("is_sure", "is_warrant", "is_settled", "is_tree", "clears", "heals", "is_extract")
 
 
 def made_case():
@@ -122,8 +126,8 @@ class Asked(unittest.TestCase):
             questions = [
                 (function, plot, rule, besides)
                 for function, besides in CALLS for plot in plots(arguments[0]) for rule in RULES[::4]
-                # The shares are those of five doubts.
-                if function not in WITH_SHARES or len(case.doubts()) == 5
+                # The shares are those of five doubts, and so are the notes.
+                if function not in (*WITH_SHARES, least_telling) or len(case.doubts()) == 5
             ]
             for _ in range(2):
                 source.shuffle(questions)
@@ -139,7 +143,9 @@ class Asked(unittest.TestCase):
                     found = function(case, "acre", rule, *besides)
                 except ValueError:
                     continue
-                if isinstance(found, dict):
+                if function == extract and found is not None:
+                    self.assertEqual(found, [sorted(nodes) for nodes in found])
+                elif isinstance(found, dict):
                     self.assertEqual(list(found), sorted(found), function.__name__)
                 elif isinstance(found, list):
                     self.assertEqual(found, sorted(found), function.__name__)

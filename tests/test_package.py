@@ -3,7 +3,10 @@
 import ast
 import builtins
 import doctest
+import importlib
+import inspect
 import pathlib
+import re
 import unittest
 
 ROOT = pathlib.Path(__file__).resolve().parent.parent
@@ -96,6 +99,21 @@ FUNCTIONS = {
     "late": {
         "late": "case at paper word", "differs": "case plot rule at paper", "reaches": "case plot rule at paper",
     },
+    "extracts": {
+        "extract": "case plot rule name", "is_extract": "case plot rule name thing",
+        "behind": "case plot rule place node",
+    },
+    "notes": {
+        "agree": "case one other", "put_together": "case one other", "least_telling": "case plot rule name one other",
+    },
+    "notation": {
+        "show_paper": "paper", "show_roll": "roll", "show_case": "case", "show_rule": "rule", "show_lot": "lot",
+        "show_tree": "tree",
+    },
+    "readers": {
+        "read_paper": "text", "read_roll": "text", "read_rule": "text", "read_lot": "text", "read_tree": "text",
+        "read_case": "text",
+    },
 }
 METHODS = {
     ("cases", "Case"): {
@@ -107,7 +125,20 @@ METHODS = {
         "__init__": "case plot rule", "places": "", "open_at": "place", "nodes": "place", "steps": "place",
         "walk": "truth", "come": "place node",
     },
+    ("book", "Book"): {
+        "__init__": "firsts", "__eq__": "other", "__len__": "", "do": "deed", "case": "", "rule": "", "claims": "",
+        "log": "", "back": "", "again": "", "copied": "", "trial": "deeds",
+    },
+    ("desk", "Desk"): {"__init__": "firsts", "execute": "line", "book": ""},
 }
+ERRORS = {
+    "Wrong": "place", "NoPlot": "plot", "NoPaper": "number", "NoSale": "number", "Needed": "number other",
+    "Clash": "name", "NoTruth": "truth", "NoWord": "word", "Known": "number", "Bound": "", "NoPlace": "place",
+    "NoNode": "node", "NoHead": "head", "Unlikely": "", "Unlike": "head", "NoText": "", "NoDeed": "",
+    "NoGroup": "numbers", "NoClaim": "number", "Broken": "number truth", "Nothing": "", "Stopped": "index",
+    "NoCommand": "",
+}
+DOCUMENT = ROOT.parent / "shared" / "DOC.md"
 # What the language lets be imported from Python's own library.
 LIBRARY = {
     "heapq": {"heappush", "heappop", "heapify", "heapreplace", "heappushpop"},
@@ -156,6 +187,66 @@ class Interface(unittest.TestCase):
             self.assertEqual(len(found), 1, title)
             with_self = {method: f"self {arguments}" for method, arguments in methods.items()}
             self.assert_defined(found[0].body, with_self, title)
+
+
+    def test_each_file_is_imported_and_holds_its_names(self):
+        for name, functions in FUNCTIONS.items():
+            held = importlib.import_module(f"soundtitle.{name}")
+            for function, arguments in functions.items():
+                self.assert_called_with(getattr(held, function), arguments)
+                self.assertEqual(getattr(held, function).__module__, f"soundtitle.{name}")
+        for (name, title), methods in METHODS.items():
+            kind = getattr(importlib.import_module(f"soundtitle.{name}"), title)
+            self.assertEqual(kind.__module__, f"soundtitle.{name}")
+            for method, arguments in methods.items():
+                self.assertIn(method, vars(kind))
+                self.assert_called_with(vars(kind)[method], f"self {arguments}")
+
+    def test_the_errors(self):
+        held = importlib.import_module("soundtitle.errors")
+        self.assertEqual(held.TitleError.__bases__, (ValueError,))
+        for title, arguments in ERRORS.items():
+            kind = getattr(held, title)
+            self.assertEqual(kind.__bases__, (held.TitleError,))
+            self.assert_called_with(vars(kind)["__init__"], f"self {arguments}")
+
+    def assert_called_with(self, function, arguments):
+        found = inspect.signature(function).parameters.values()
+        self.assertEqual([one.name for one in found], arguments.split(), function)
+        for one in found:
+            self.assertIs(one.default, inspect.Parameter.empty)
+            self.assertIs(one.kind, inspect.Parameter.POSITIONAL_OR_KEYWORD)
+
+    @unittest.skipUnless(DOCUMENT.exists(), "the document is not here")
+    def test_these_are_the_names_of_the_document(self):
+        told = DOCUMENT.read_text().split("# The interface")[1]
+        rows = re.findall("^- soundtitle/([a-z]+)[.]py (.*)$", told, re.MULTILINE)
+        self.assertEqual({name for name, _ in rows}, {"errors", *FUNCTIONS, *[name for name, _ in METHODS]})
+        for name, row in rows:
+            row = row.split("with its arguments as fields")[-1] if name == "errors" else row
+            calls = dict(re.findall("`([A-Za-z_]+)[(]([a-z, ]*)[)]`", row))
+            # What functions raise stands among the calls, too.
+            found = {one: calls[one].replace(",", "") for one in calls if name == "errors" or one not in ERRORS}
+            titles = [title for place, title in METHODS if place == name]
+            expected = FUNCTIONS.get(name, {}) if name != "errors" else ERRORS
+            for title in titles:
+                methods = METHODS[name, title]
+                plain = {one: arguments for one, arguments in methods.items() if not one.startswith("__")}
+                expected = {**expected, **plain, title: methods["__init__"]}
+                self.assertEqual("with `==`" in row, "__eq__" in methods)
+                self.assertEqual("`len`" in row, "__len__" in methods)
+            self.assertEqual(found, expected, name)
+
+
+class Examples(unittest.TestCase):
+    @unittest.skipUnless(DOCUMENT.exists(), "the document is not here")
+    def test_those_of_the_document(self):
+        # The fences would be read as what is expected.
+        text = DOCUMENT.read_text().replace("```", "")
+        examples = doctest.DocTestParser().get_doctest(text, {}, "DOC.md", str(DOCUMENT), 0)
+        found = doctest.DocTestRunner().run(examples)
+        self.assertGreater(found.attempted, 30)
+        self.assertEqual(found.failed, 0)
 
 
 class Readme(unittest.TestCase):
