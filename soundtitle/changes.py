@@ -1,6 +1,6 @@
 """What becomes of a plot if the rule changes on a day."""
 
-from soundtitle.layers import Counts, Marks, Way, by_key, layer_behind, led_on
+from soundtitle.layers import Counts, Marks, by_key, layer_behind, led_on, way_of
 from soundtitle.moments import moments
 from soundtitle.walks import base_behind, deals, is_sound_in, state_behind, states
 
@@ -19,7 +19,7 @@ def changed(roll, plot, rule, later, day, truth):
 
 def holders_changed(case, plot, rule, later, day):
     """The dict from the names to how many truths of the Case have them as the holder then."""
-    way = Way(case, plot)
+    way = way_of(case, plot)
     counts = Counts({head: (1, 1) for head in way.bits}, way.bound)
     turn = _turn(moments(case.roll(), plot), day)
     layer = led_on(way, 0, turn, _first_layer(way, counts), _elder_behind(way, rule, later), counts)
@@ -33,7 +33,7 @@ def days_safe(case, plot, rule, later, name):
 
     Of all days, those of moments of the plot are asked, and the day behind the last one, or 0 if there is none.
     """
-    way = Way(case, plot)
+    way = way_of(case, plot)
     rows = moments(case.roll(), plot)
     days = sorted(set([day for day, _, _ in rows]))
     days.append(days[-1] + 1 if days else 0)

@@ -4,7 +4,7 @@ from soundtitle.cases import Case
 from soundtitle.errors import NoPlace
 from soundtitle.forms import is_integer
 from soundtitle.graph import graph_of
-from soundtitle.layers import Way
+from soundtitle.layers import way_of
 
 
 def extract(case, plot, rule, name):
@@ -17,7 +17,7 @@ def extract(case, plot, rule, name):
 
 def is_extract(case, plot, rule, name, thing):
     """Whether a thing, any value, is an extract for a name."""
-    way = Way(case, plot)
+    way = way_of(case, plot)
     if not isinstance(thing, list) or len(thing) != way.last + 1:
         return False
     for place, nodes in enumerate(thing):
@@ -30,7 +30,7 @@ def is_extract(case, plot, rule, name, thing):
 
 def behind(case, plot, rule, place, node):
     """The ascending list of the nodes behind a node at a place, by all words that are let."""
-    way = Way(case, plot)
+    way = way_of(case, plot)
     if not is_integer(place) or not 0 <= place < way.last:
         raise NoPlace(place)
     return sorted(set(way.nodes_behind(place, node, way.behind(rule))))

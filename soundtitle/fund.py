@@ -1,6 +1,6 @@
 """The claims of those who lose a plot by overrides."""
 
-from soundtitle.layers import Marks, Way, by_key, layer_behind
+from soundtitle.layers import Marks, by_key, layer_behind, way_of
 from soundtitle.rolls import names
 from soundtitle.walks import is_loss, overrides
 
@@ -33,7 +33,7 @@ def _table(case, plot, rule):
     The first row is that of all persons together, and those behind it are each person's. It stays with the Case;
     nobody changes it.
     """
-    way = Way(case, plot)
+    way = way_of(case, plot)
     kept = case.shelf(("claims", plot, rule))
     if not kept:
         # A sale overrides once at most. Each row has a mark for each number of claims, and begins with that of none.

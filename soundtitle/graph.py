@@ -3,7 +3,7 @@
 from soundtitle.cases import Case
 from soundtitle.errors import NoNode, NoPlace, NoPlot, NoTruth, Wrong
 from soundtitle.forms import is_integer, is_rule
-from soundtitle.layers import Counts, Lightest, Way, by_key, layer_behind, led_on
+from soundtitle.layers import Counts, Lightest, by_key, layer_behind, led_on, way_of
 from soundtitle.lots import word_in
 from soundtitle.rolls import plots
 from soundtitle.walks import states
@@ -22,7 +22,7 @@ class Graph:
         self._case = case
         self._plot = plot
         self._rule = rule
-        self._way = Way(case, plot)
+        self._way = way_of(case, plot)
         self._behind = self._way.behind(rule)
         self._counts = Counts({head: (1, 1) for head in self._way.bits}, case.cap())
         # They are made when they are needed.

@@ -8,12 +8,13 @@ from soundtitle.truths import holding, many_in, truths_of
 def joint(case, plots, rule):
     """The dict from the tuples of who holds each of some plots to how many truths of the Case have it so."""
     found = {(): truths_of(case).every}
+    # As the names come in their order, plot by plot, the tuples do.
     for plot in plots:
         held = holding(case, plot, rule)
         found = {
             names + (name,): some & held[name] for names, some in found.items() for name in held if some & held[name]
         }
-    return {names: many_in(found[names]) for names in sorted(found)}
+    return {names: many_in(some) for names, some in found.items()}
 
 
 def sure_of_many(case, rule, name):

@@ -5,9 +5,11 @@ are open there: it has one bit for each that is void. What a worth tells of the 
 is known to its measure, which is one of the classes Counts, Marks and Lightest.
 """
 
+from soundtitle.errors import NoPlot
 from soundtitle.forms import is_integer, is_name
 from soundtitle.lots import is_told
 from soundtitle.moments import moments
+from soundtitle.rolls import plots
 from soundtitle.truths import members
 from soundtitle.walks import deals, first_state, state_behind
 
@@ -47,7 +49,7 @@ class Branch:
 
 
 class Way:
-    """The moments of a plot, any value, and the doubts of a Case that are open between them."""
+    """The moments of a plot, and the doubts of a Case that are open between them. It never changes."""
 
     def __init__(self, case, plot):
         roll = case.roll()
@@ -219,6 +221,16 @@ class Lightest:
     def void_heads(self, worth):
         """The heads of the void doubts."""
         return [head for head in self._bits if worth & self._bits[head]]
+
+
+def way_of(case, plot):
+    """The Way of a plot, any value. It stays with the Case."""
+    if plot not in plots(case.roll()):
+        raise NoPlot(plot)
+    kept = case.shelf(("way", plot))
+    if not kept:
+        kept.append(Way(case, plot))
+    return kept[0]
 
 
 def layer_behind(way, place, layer, behind, measure):

@@ -1,6 +1,6 @@
 """Where two rules part: the truths in which they tell other holders of a plot."""
 
-from soundtitle.layers import Counts, Lightest, Way, by_key, led_on
+from soundtitle.layers import Counts, Lightest, by_key, led_on, way_of
 
 
 def parted_many(case, plot, one, other):
@@ -11,7 +11,7 @@ def parted_many(case, plot, one, other):
 
 def parted_by(case, plot, one, other):
     """A truth in which two rules part with as few void doubts as can be, or None."""
-    way = Way(case, plot)
+    way = way_of(case, plot)
     kept = case.shelf(("parted", plot, one, other))
     if not kept:
         measure = Lightest(way)
@@ -23,7 +23,7 @@ def parted_by(case, plot, one, other):
 
 def pairs_many(case, plot, one, other):
     """The dict from the tuples of who holds the plot by the one rule and by the other to how many truths have it so."""
-    way = Way(case, plot)
+    way = way_of(case, plot)
     kept = case.shelf(("pairs", plot, one, other))
     if not kept:
         measure = Counts({head: (1, 1) for head in way.bits}, way.bound)

@@ -7,7 +7,7 @@ is shown, against the text that was read. So needless zeros, two blanks and the 
 from soundtitle.cases import Case
 from soundtitle.errors import NoText, Wrong
 from soundtitle.forms import is_integer, is_name, is_paper, is_roll, is_rule, is_truth, is_word
-from soundtitle.notation import show_case, show_lot, show_paper, show_roll, show_rule, show_tree
+from soundtitle.notation import show_case, show_lot, show_paper, show_roll, show_tree
 
 # How many words the lines have that write no papers.
 _SIZES = {"first": 3, "known": 3, "group": 2, "bound": 2}
@@ -31,13 +31,10 @@ def read_case(text):
     rows = _rows(text)
     known = {integer_in(row[1]): row[2] for row in rows if row[0] == "known"}
     groups = tuple([integers_in(row[1]) for row in rows if row[0] == "group"])
-    most = None
-    for row in rows:
-        if row[0] == "bound":
-            most = integer_in(row[1])
+    bounds = [integer_in(row[1]) for row in rows if row[0] == "bound"]
     roll = _roll_of([row for row in rows if row[0] not in ("known", "group", "bound")])
     try:
-        case = Case(roll, known, groups, most)
+        case = Case(roll, known, groups, bounds[0] if bounds else None)
     except Wrong:
         raise NoText() from None
     if show_case(case) != text:
@@ -46,8 +43,9 @@ def read_case(text):
 
 
 def read_rule(text):
+    # Parted at each blank, a text is nothing but its words.
     rule = tuple(text.split(" "))
-    if not is_rule(rule) or show_rule(rule) != text:
+    if not is_rule(rule):
         raise NoText()
     return rule
 

@@ -4,7 +4,7 @@ import unittest
 from collections import Counter
 
 from samples import (
-    BARE, RULES, SMALL, WIDE, asked, hanging_roll, lively, long_roll, odd_values, told_losses, told_states,
+    BARE, RULES, SMALL, asked, hanging_roll, lively, long_roll, odd_values, told_losses, told_states,
     told_truths,
 )
 from soundtitle.cases import Case
