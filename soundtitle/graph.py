@@ -25,8 +25,7 @@ class Graph:
         self._way = way_of(case, plot)
         self._behind = self._way.behind(rule)
         self._counts = Counts({head: (1, 1) for head in self._way.bits}, case.cap())
-        # They are made when they are needed.
-        self._layers = [{self._way.first: {0: self._counts.start}}]
+        self._layers = self._kept_layers()
 
     def places(self):
         """How many places there are."""
@@ -119,11 +118,22 @@ class Graph:
         if not is_integer(place) or not 0 <= place <= self._way.last:
             raise NoPlace(place)
 
+    def _kept_layers(self):
+        """The list of the layers, that of the first place at least; they are made when nodes are asked for.
+
+        Layers may be large: those of the last plot and rule alone stay with the Case.
+        """
+        kept = self._case.shelf(("layers",))
+        asked = (self._plot, self._rule)
+        if not kept or kept[0] != asked:
+            kept[:] = [asked, [{self._way.first: {0: self._counts.start}}]]
+        return kept[1]
+
     def _end(self):
         """The tuple of the states at the last place and of what the truths come to there. It stays with the Case."""
         kept = self._case.shelf(("end", self._plot, self._rule))
         if not kept:
-            # Layers may be large: none of them is kept for this.
+            # None of the layers is kept for this.
             layer = self._led(self._counts)
             kept.append((sorted(layer), self._by_holders(layer, self._counts)))
         return kept[0]
